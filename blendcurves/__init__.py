@@ -1,0 +1,1 @@
+"""Blendcurves: exact curves of polynomial pieces."""

@@ -1,0 +1,118 @@
+"""Checks of arguments: each raises the error of its kind of value."""
+
+from blendcurves.errors import BadData, BadDegree, BadInterval, BadKnots, BadNodes
+from blendcurves.errors import BadNumber, BadPlaces, BadPolynomial, BadRatio, BadRow
+from blendcurves.ratios import ZERO, is_below, is_ratio, is_whole
+
+HIGHEST_POWER = 12
+MOST_NODES = 8
+MOST_KNOTS = 16
+ROW_DEGREE = 8
+KNOT_DEGREE = 4
+
+
+def are_ratios(value, many):
+    """Tell whether any value is a tuple of so many ratios."""
+    return type(value) is tuple and len(value) == many and all([is_ratio(item) for item in value])
+
+
+def is_interval(value):
+    """Tell whether any value is an interval."""
+    return are_ratios(value, 2) and is_below(value[0], value[1])
+
+
+def has_length(value, least, most):
+    """Tell whether any value is a tuple of least to most items."""
+    return type(value) is tuple and least <= len(value) <= most
+
+
+def is_polynomial(value):
+    """Tell whether any value is a polynomial."""
+    if not has_length(value, 0, HIGHEST_POWER + 1) or not are_ratios(value, len(value)):
+        return False
+    return value == () or value[-1] != ZERO
+
+
+def falls_at(items, at):
+    """Tell whether an item is no ratio or less than the one before, a ratio."""
+    return not is_ratio(items[at]) or (at > 0 and is_below(items[at], items[at - 1]))
+
+
+def check_polynomial(value):
+    """Raise BadPolynomial for a value that is no polynomial."""
+    if not is_polynomial(value):
+        raise BadPolynomial()
+
+
+def check_nonzero(value):
+    """Raise BadPolynomial for a value that is no polynomial or is ()."""
+    if not is_polynomial(value) or value == ():
+        raise BadPolynomial()
+
+
+def check_nodes(value):
+    """Raise BadNodes for a value that is no nodes."""
+    if not has_length(value, 1, MOST_NODES):
+        raise BadNodes(None)
+    for at in range(len(value)):
+        if falls_at(value, at):
+            raise BadNodes(at)
+
+
+def check_data(value, many):
+    """Raise BadData for a value that is no tuple of so many ratios."""
+    if not are_ratios(value, many):
+        raise BadData()
+
+
+def check_degree(value, least, most):
+    """Raise BadDegree for a value that is no integer from least to most."""
+    if not is_whole(value) or not least <= value <= most:
+        raise BadDegree()
+
+
+def check_degree_of(poly, value, most):
+    """Raise BadDegree for a value that is no degree a polynomial can be taken as one of."""
+    check_degree(value, max(len(poly) - 1, 0), most)
+
+
+def check_places(value, many):
+    """Raise BadPlaces for a value that is no tuple of so many ratios."""
+    if not are_ratios(value, many):
+        raise BadPlaces()
+
+
+def check_row(value):
+    """Raise BadRow for a value that is no row."""
+    if not has_length(value, 1, ROW_DEGREE + 1):
+        raise BadRow(None)
+    for at, item in enumerate(value):
+        if not is_ratio(item):
+            raise BadRow(at)
+
+
+def check_interval(value):
+    """Raise BadInterval for a value that is no interval."""
+    if not is_interval(value):
+        raise BadInterval()
+
+
+def check_number(value, least, most):
+    """Raise BadNumber for a value that is no integer from least to most."""
+    if not is_whole(value) or not least <= value <= most:
+        raise BadNumber()
+
+
+def check_above_zero(value):
+    """Raise BadRatio for a value that is no ratio above 0."""
+    if not is_ratio(value) or not is_below(ZERO, value):
+        raise BadRatio()
+
+
+def check_knots(degree, value):
+    """Raise BadKnots for a value that is no knots of a degree."""
+    if not has_length(value, degree + 2, MOST_KNOTS):
+        raise BadKnots(None)
+    for at in range(len(value)):
+        if falls_at(value, at) or (at > degree and value[at - degree - 1] == value[at]):
+            raise BadKnots(at)

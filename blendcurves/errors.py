@@ -1,0 +1,65 @@
+"""The errors of the package."""
+
+
+class BlendError(ValueError):
+    """The base class of all errors of the package."""
+
+
+class BadRatio(BlendError):
+    """A value is not a ratio, or not one of those that are allowed there."""
+
+
+class BadPolynomial(BlendError):
+    """A value is not a polynomial, or it is () where that is not allowed."""
+
+
+class DividesByZero(BlendError):
+    """Something would be divided by 0."""
+
+
+class TooLarge(BlendError):
+    """The degree of an answer would be above most."""
+
+    def __init__(self, most):
+        self.most = most
+
+
+class BadNodes(BlendError):
+    """A value is not nodes; index tells the first wrong item, None the whole."""
+
+    def __init__(self, index):
+        self.index = index
+
+
+class BadData(BlendError):
+    """A value is not data of the nodes."""
+
+
+class BadDegree(BlendError):
+    """A value is not a degree, or one below that of the polynomial."""
+
+
+class BadPlaces(BlendError):
+    """A value is not a tuple of as many places as are due."""
+
+
+class BadRow(BlendError):
+    """A value is not a row; index tells the first wrong item, None the whole."""
+
+    def __init__(self, index):
+        self.index = index
+
+
+class BadInterval(BlendError):
+    """A value is not an interval."""
+
+
+class BadNumber(BlendError):
+    """A value is not one of the integers that are allowed there."""
+
+
+class BadKnots(BlendError):
+    """A value is not knots; index tells the first wrong item, None the whole."""
+
+    def __init__(self, index):
+        self.index = index

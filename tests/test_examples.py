@@ -1,0 +1,47 @@
+"""The examples of the document, as they stand there."""
+
+import unittest
+
+EXAMPLES = r"""
+>>> from blendcurves.ratios import compare, ratio
+>>> [ratio(4, -6), compare((1, 2), (2, 3))]
+[(-2, 3), -1]
+
+>>> from blendcurves.polys import composed, divide, integral, multiply, value
+>>> x = ((0, 1), (1, 1))
+>>> [value(((1, 1), (0, 1), (2, 1)), (1, 2)), multiply(x, x), divide(((-1, 1), (0, 1), (1, 1)), ((1, 1), (1, 1))), integral(x, (0, 1), (1, 1)), composed(multiply(x, x), ((1, 1), (1, 1)))]
+[(3, 2), ((0, 1), (0, 1), (1, 1)), (((-1, 1), (1, 1)), ()), (1, 2), ((1, 1), (2, 1), (1, 1))]
+
+>>> from blendcurves.dividing import divided, divided_of, through
+>>> nodes, data = ((0, 1), (0, 1), (1, 1)), ((0, 1), (1, 1), (0, 1))
+>>> [through(nodes, data), divided(nodes, data), divided_of(((0, 1), (0, 1), (1, 1)), nodes)]
+[((0, 1), (1, 1), (-1, 1)), ((0, 1), (1, 1), (-1, 1)), (1, 1)]
+"""
+
+
+def run_example(text):
+    """The pairs of what the lines of an example give and what is shown below them."""
+    names = {}
+    pairs = []
+    lines = text.split("\n")
+    for at, line in enumerate(lines):
+        if not line.startswith(">>> "):
+            continue
+        if at + 1 < len(lines) and not lines[at + 1].startswith(">>> "):
+            pairs.append((repr(eval(line[4:], names)), lines[at + 1]))
+        else:
+            exec(line[4:], names)
+    return pairs
+
+
+class Examples(unittest.TestCase):
+    def test_examples(self):
+        for text in EXAMPLES.strip().split("\n\n"):
+            pairs = run_example(text)
+            self.assertTrue(pairs, text)
+            for found, due in pairs:
+                self.assertEqual(found, due)
+
+
+if __name__ == "__main__":
+    unittest.main()

@@ -1,0 +1,51 @@
+"""The interface: names, arguments, homes of functions, and the classes of errors."""
+
+import importlib
+import inspect
+import unittest
+
+from blendcurves import errors
+
+ARGUMENTS = {
+    "ratios": {"ratio": "top low", "compare": "one other"},
+    "polys": {
+        "value": "poly x", "add": "one other", "multiply": "one other", "divide": "one other",
+        "common": "one other", "slope": "poly", "composed": "one other",
+        "integral": "poly low high",
+    },
+    "dividing": {
+        "data_of": "poly nodes", "divided": "nodes data", "through": "nodes data",
+        "divided_of": "poly nodes",
+    },
+}
+FIELDS = {
+    "BadRatio": "", "BadPolynomial": "", "DividesByZero": "", "TooLarge": "most",
+    "BadNodes": "index", "BadData": "",
+}
+
+
+class Interface(unittest.TestCase):
+    def test_functions(self):
+        for name, functions in ARGUMENTS.items():
+            module = importlib.import_module("blendcurves." + name)
+            for title, due in functions.items():
+                function = getattr(module, title)
+                self.assertTrue(inspect.isfunction(function), title)
+                self.assertEqual(function.__module__, module.__name__)
+                self.assertEqual(list(inspect.signature(function).parameters), due.split())
+
+    def test_base(self):
+        self.assertEqual(errors.BlendError.__bases__, (ValueError,))
+        self.assertEqual(errors.BlendError.__module__, "blendcurves.errors")
+
+    def test_errors(self):
+        for name, field in FIELDS.items():
+            kind = getattr(errors, name)
+            self.assertEqual(kind.__bases__, (errors.BlendError,), name)
+            self.assertEqual(kind.__module__, "blendcurves.errors")
+            made = kind(7) if field else kind()
+            self.assertEqual(vars(made), {field: 7} if field else {})
+
+
+if __name__ == "__main__":
+    unittest.main()
