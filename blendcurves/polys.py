@@ -27,8 +27,7 @@ def multiply(one, other):
     """The product of two polynomials."""
     check_polynomial(one)
     check_polynomial(other)
-    if one and other:
-        check_size(degree_of(one) + degree_of(other))
+    check_size(degree_of(one) + degree_of(other))
     return product_of(one, other)
 
 
@@ -67,8 +66,7 @@ def composed(one, other):
     """The polynomial that takes x to one at other at x."""
     check_polynomial(one)
     check_polynomial(other)
-    if len(one) > 1 and len(other) > 1:
-        check_size(degree_of(one) * degree_of(other))
+    check_size(degree_of(one) * degree_of(other))
     answer = ()
     for number in reversed(one):
         answer = sum_of(product_of(answer, other), trimmed([number]))

@@ -3,11 +3,18 @@
 import unittest
 from copy import deepcopy
 
+from blendcurves.beziers import lowered, poly_of, raised, row_mean, row_of, row_product, row_value
+from blendcurves.beziers import slopes, split
+from blendcurves.blossoms import blossom
 from blendcurves.dividing import data_of, divided, divided_of, through
+from blendcurves.knots import basis_pieces, basis_value, coefficients, greville
 from blendcurves.polys import add, common, composed, divide, integral, multiply, slope, value
 from blendcurves.ratios import compare, ratio
-from tests.helper import WRONG_NODES, WRONG_POLY, WRONG_RATIO, Case, alike, outcome, poly, ratios
-from tests.helper import wrong, wrong_tuple
+from blendcurves.signs import all_roots, boxes, chain, changes, counted_roots, is_positive
+from blendcurves.signs import positive_degree, roots_in, shows_boxes
+from tests.helper import WRONG_INTERVAL, WRONG_NODES, WRONG_NONZERO, WRONG_POLY, WRONG_RATIO
+from tests.helper import WRONG_ROW, Case, alike, outcome, poly, ratios, wrong, wrong_integer
+from tests.helper import wrong_knots, wrong_tuple
 
 WRONG_TOP = wrong("BadRatio", [True, False, None, "1", "", [], [1], {}, (), (1, 1)])
 WRONG_LOW = WRONG_TOP + wrong("DividesByZero", [0])
@@ -17,6 +24,16 @@ CUBE = poly(1, -3, 0, "2/3")
 NODES = ratios(-1, "1/2", "1/2")
 DATA = ratios(3, 2, 1)
 WRONG_DATA = wrong_tuple("BadData", 3)
+
+ROW = ratios(1, -2, "5/3", 0)
+INTERVAL = ratios("-1/2", 3)
+KNOTS = ratios(0, 0, 0, 1, 2, 2)
+# Of CUBE a degree is at least 3.
+WRONG_DEGREE = wrong_integer("BadDegree", 0, 8) + wrong("BadDegree", [0, 1, 2])
+WRONG_KNOT_DEGREE = wrong_integer("BadDegree", 0, 4)
+WRONG_KNOTS = wrong_knots(2)
+WRONG_INDEX = wrong_integer("BadNumber", 0, 2)
+WRONG_WIDE = WRONG_RATIO + wrong("BadRatio", [(0, 1), (-1, 2), (-3, 1)])
 
 # A function, arguments that are right, and for each one the wrong values and their errors.
 CALLS = [
@@ -34,6 +51,35 @@ CALLS = [
     (through, (NODES, DATA), (WRONG_NODES, WRONG_DATA)),
     (divided, (NODES, DATA), (WRONG_NODES, WRONG_DATA)),
     (divided_of, (CUBE, NODES), (WRONG_POLY, WRONG_NODES)),
+    (blossom, (CUBE, 4, ratios(1, 2, 3, 4)),
+     (WRONG_POLY, WRONG_DEGREE, wrong_tuple("BadPlaces", 4))),
+    (row_of, (CUBE, 4, INTERVAL), (WRONG_POLY, WRONG_DEGREE, WRONG_INTERVAL)),
+    (poly_of, (ROW, INTERVAL), (WRONG_ROW, WRONG_INTERVAL)),
+    (row_value, (ROW, (1, 3)), (WRONG_ROW, WRONG_RATIO)),
+    (raised, (ROW,), (WRONG_ROW,)),
+    (lowered, (ROW,), (WRONG_ROW,)),
+    (split, (ROW, (1, 3)), (WRONG_ROW, WRONG_RATIO)),
+    (slopes, (ROW,), (WRONG_ROW,)),
+    (row_product, (ROW, ROW), (WRONG_ROW, WRONG_ROW)),
+    (row_mean, (ROW,), (WRONG_ROW,)),
+    (changes, (ROW,), (WRONG_ROW,)),
+    (chain, (CUBE,), (WRONG_NONZERO,)),
+    (roots_in, (CUBE, INTERVAL), (WRONG_NONZERO, WRONG_INTERVAL)),
+    (all_roots, (CUBE,), (WRONG_NONZERO,)),
+    (counted_roots, (CUBE, INTERVAL), (WRONG_NONZERO, WRONG_INTERVAL)),
+    (is_positive, (CUBE, INTERVAL), (WRONG_POLY, WRONG_INTERVAL)),
+    (positive_degree, (CUBE, INTERVAL, 9),
+     (WRONG_NONZERO, WRONG_INTERVAL, wrong_integer("BadNumber", 3, 24))),
+    (boxes, (CUBE, INTERVAL, (1, 2)), (WRONG_NONZERO, WRONG_INTERVAL, WRONG_WIDE)),
+    # No value is wrong as the last one; with another argument wrong, it makes no difference.
+    (shows_boxes, (CUBE, INTERVAL, (1, 2), [{1: [()]}]),
+     (WRONG_NONZERO, WRONG_INTERVAL, WRONG_WIDE, [])),
+    (basis_value, (2, KNOTS, 1, (1, 2)),
+     (WRONG_KNOT_DEGREE, WRONG_KNOTS, WRONG_INDEX, WRONG_RATIO)),
+    (basis_pieces, (2, KNOTS, 1), (WRONG_KNOT_DEGREE, WRONG_KNOTS, WRONG_INDEX)),
+    (greville, (2, KNOTS), (wrong_integer("BadDegree", 1, 4), WRONG_KNOTS)),
+    (coefficients, (CUBE, 3, ratios(0, 0, 1, 1, 2, 3)),
+     (WRONG_POLY, wrong_integer("BadDegree", 3, 4) + wrong("BadDegree", [0, 1]), wrong_knots(3))),
 ]
 
 
@@ -68,7 +114,7 @@ class Arguments(Case):
     def test_all_wrong(self):
         for function, good, kinds in CALLS:
             for item, due in kinds[0]:
-                arguments = (item,) + tuple(kind[0][0] for kind in kinds[1:])
+                arguments = (item,) + tuple(kind[0][0] if kind else None for kind in kinds[1:])
                 self.assertEqual(outcome(function, arguments), due, function)
 
     def test_unchanged(self):

@@ -16,6 +16,28 @@ EXAMPLES = r"""
 >>> nodes, data = ((0, 1), (0, 1), (1, 1)), ((0, 1), (1, 1), (0, 1))
 >>> [through(nodes, data), divided(nodes, data), divided_of(((0, 1), (0, 1), (1, 1)), nodes)]
 [((0, 1), (1, 1), (-1, 1)), ((0, 1), (1, 1), (-1, 1)), (1, 1)]
+
+>>> from blendcurves.blossoms import blossom
+>>> [blossom(((0, 1), (0, 1), (1, 1)), 2, ((1, 1), (3, 1))), blossom(((0, 1), (1, 1)), 2, ((1, 1), (2, 1)))]
+[(3, 1), (3, 2)]
+
+>>> from blendcurves.beziers import lowered, poly_of, raised, row_mean, row_value, slopes, split
+>>> row = ((0, 1), (1, 1), (0, 1))
+>>> [row_value(row, (1, 2)), poly_of(row, ((0, 1), (1, 1))), raised(((0, 1), (1, 1))), lowered(row), split(row, (1, 2)), slopes(row), row_mean(row)]
+[(1, 2), ((0, 1), (2, 1), (-2, 1)), ((0, 1), (1, 2), (1, 1)), None, (((0, 1), (1, 2), (1, 2)), ((1, 2), (1, 2), (0, 1))), ((2, 1), (-2, 1)), (1, 3)]
+
+>>> from blendcurves.signs import all_roots, changes, is_positive, positive_degree, roots_in
+>>> cube, unit = ((0, 1), (-1, 1), (0, 1), (1, 1)), ((0, 1), (1, 1))
+>>> [changes(((1, 1), (0, 1), (-1, 1))), roots_in(cube, ((-1, 1), (1, 1))), all_roots(cube), is_positive(((1, 1),), unit), positive_degree(((1, 3), (-1, 1), (1, 1)), unit, 24)]
+[1, 2, 3, True, 5]
+>>> from blendcurves.signs import shows_boxes
+>>> shows_boxes(((0, 1), (-1, 1), (0, 1), (1, 1)), ((-2, 1), (2, 1)), (1, 1), (((-2, 1), (-1, 1)), ((-1, 1), (0, 1)), ((0, 1), (1, 1))))
+True
+
+>>> from blendcurves.knots import basis_pieces, basis_value, coefficients, greville
+>>> hat = ((0, 1), (1, 1), (2, 1))
+>>> [basis_value(1, hat, 0, (1, 2)), basis_pieces(1, hat, 0), greville(2, ((0, 1),) * 3 + ((1, 1),) * 3), coefficients(((0, 1), (1, 1)), 1, ((0, 1), (0, 1), (1, 1), (1, 1)))]
+[(1, 2), ((((0, 1), (1, 1)), ((0, 1), (1, 1))), (((1, 1), (2, 1)), ((2, 1), (-1, 1)))), ((0, 1), (1, 2), (1, 1)), ((0, 1), (1, 1))]
 """
 
 

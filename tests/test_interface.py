@@ -17,10 +17,27 @@ ARGUMENTS = {
         "data_of": "poly nodes", "divided": "nodes data", "through": "nodes data",
         "divided_of": "poly nodes",
     },
+    "blossoms": {"blossom": "poly degree places"},
+    "beziers": {
+        "row_of": "poly degree interval", "poly_of": "row interval", "row_value": "row t",
+        "raised": "row", "lowered": "row", "split": "row t", "slopes": "row",
+        "row_product": "one other", "row_mean": "row",
+    },
+    "signs": {
+        "changes": "row", "chain": "poly", "roots_in": "poly interval", "all_roots": "poly",
+        "counted_roots": "poly interval", "is_positive": "poly interval",
+        "positive_degree": "poly interval most", "boxes": "poly interval wide",
+        "shows_boxes": "poly interval wide value",
+    },
+    "knots": {
+        "basis_value": "degree knots index x", "basis_pieces": "degree knots index",
+        "greville": "degree knots", "coefficients": "poly degree knots",
+    },
 }
 FIELDS = {
     "BadRatio": "", "BadPolynomial": "", "DividesByZero": "", "TooLarge": "most",
-    "BadNodes": "index", "BadData": "",
+    "BadNodes": "index", "BadData": "", "BadDegree": "", "BadPlaces": "", "BadRow": "index",
+    "BadInterval": "", "BadNumber": "", "BadKnots": "index",
 }
 
 

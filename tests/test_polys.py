@@ -56,6 +56,7 @@ class AddAndMultiply(Case):
 
     def test_too_large(self):
         self.same(multiply(TOP, poly(5)), poly(*[0] * 12, 15))
+        self.same(multiply(TOP, ()), ())
         for one, other in [(TOP, X), (X, TOP), (TOP, TOP), (poly(*[0] * 6, 1), poly(*[0] * 7, 1))]:
             self.fails("TooLarge", multiply, one, other, most=12)
         self.fails("BadPolynomial", multiply, TOP, [X])
@@ -149,6 +150,10 @@ class Composed(Case):
         self.same(composed(poly(0, 5, 1), ()), ())
         self.same(composed(FULL, poly(-1)), ratios(value_of(FULL, -1)))
         self.same(composed(with_roots(1, 2), poly(2)), ())
+        self.same(composed((), TOP), ())
+        self.same(composed(TOP, ()), ())
+        self.same(composed(poly(2), TOP), poly(2))
+        self.same(composed(TOP, poly(2)), poly(3 * 2 ** 12))
 
     def test_direction(self):
         self.same(composed(poly(0, 0, 1), poly(1, 1)), poly(1, 2, 1))
