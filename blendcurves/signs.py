@@ -7,7 +7,7 @@ from blendcurves.checks import check_above_zero, check_interval, check_nonzero, 
 from blendcurves.checks import check_polynomial, check_row, has_length, is_interval
 from blendcurves.polys import degree_of, division_of, raw_value_at, scaled, shared_by, slope_of
 from blendcurves.polys import value_at
-from blendcurves.ratios import ZERO, between, is_below, minus
+from blendcurves.ratios import ZERO, between, is_below, lowest, minus
 
 HIGHEST_DEGREE = 24
 
@@ -133,7 +133,7 @@ def shortened(poly):
     top, low = 1, 0
     for number in poly:
         top, low = lcm(top, number[1]), gcd(low, number[0])
-    return scaled(poly, (top, low))
+    return scaled(poly, lowest(top, low))
 
 
 def root_chain(poly):
