@@ -1,12 +1,14 @@
 """Checks of arguments: each raises the error of its kind of value."""
 
 from blendcurves.errors import BadData, BadDegree, BadInterval, BadKnots, BadNodes
-from blendcurves.errors import BadNumber, BadPlaces, BadPolynomial, BadRatio, BadRow
+from blendcurves.errors import BadNumber, BadPieces, BadPlaces, BadPolynomial, BadRatio, BadRow
+from blendcurves.errors import BadSpline
 from blendcurves.ratios import ZERO, is_below, is_ratio, is_whole
 
 HIGHEST_POWER = 12
 MOST_NODES = 8
 MOST_KNOTS = 16
+MOST_PIECES = 8
 ROW_DEGREE = 8
 KNOT_DEGREE = 4
 
@@ -33,9 +35,41 @@ def is_polynomial(value):
     return value == () or value[-1] != ZERO
 
 
+def is_integer(value, least, most):
+    """Tell whether any value is an integer from least to most."""
+    return is_whole(value) and least <= value <= most
+
+
 def falls_at(items, at):
     """Tell whether an item is no ratio or less than the one before, a ratio."""
     return not is_ratio(items[at]) or (at > 0 and is_below(items[at], items[at - 1]))
+
+
+def stays_at(items, at):
+    """Tell whether an item is no ratio or not above the one before, a ratio."""
+    return falls_at(items, at) or (at > 0 and items[at] == items[at - 1])
+
+
+def wrong_knot(degree, items):
+    """The index of the first item that cannot stand there in knots of a degree, or None."""
+    for at in range(len(items)):
+        if falls_at(items, at) or (at > degree and items[at - degree - 1] == items[at]):
+            return at
+    return None
+
+
+def are_spline_knots(degree, value):
+    """Tell whether any value is knots of a degree whose ends stand as often as they may."""
+    if not has_length(value, 2 * degree + 2, MOST_KNOTS) or wrong_knot(degree, value) is not None:
+        return False
+    return value[0] == value[degree] and value[-1] == value[-degree - 1] and value[0] != value[-1]
+
+
+def is_piece(value, degree):
+    """Tell whether any value is a pair (interval, polynomial of at most a degree)."""
+    if not has_length(value, 2, 2) or not is_interval(value[0]):
+        return False
+    return is_polynomial(value[1]) and len(value[1]) <= degree + 1
 
 
 def check_polynomial(value):
@@ -67,7 +101,7 @@ def check_data(value, many):
 
 def check_degree(value, least, most):
     """Raise BadDegree for a value that is no integer from least to most."""
-    if not is_whole(value) or not least <= value <= most:
+    if not is_integer(value, least, most):
         raise BadDegree()
 
 
@@ -99,7 +133,7 @@ def check_interval(value):
 
 def check_number(value, least, most):
     """Raise BadNumber for a value that is no integer from least to most."""
-    if not is_whole(value) or not least <= value <= most:
+    if not is_integer(value, least, most):
         raise BadNumber()
 
 
@@ -113,6 +147,51 @@ def check_knots(degree, value):
     """Raise BadKnots for a value that is no knots of a degree."""
     if not has_length(value, degree + 2, MOST_KNOTS):
         raise BadKnots(None)
+    at = wrong_knot(degree, value)
+    if at is not None:
+        raise BadKnots(at)
+
+
+def check_breaks(value, least, most):
+    """Raise BadNodes for a value that is no tuple of least to most rising ratios."""
+    if not has_length(value, least, most):
+        raise BadNodes(None)
     for at in range(len(value)):
-        if falls_at(value, at) or (at > degree and value[at - degree - 1] == value[at]):
-            raise BadKnots(at)
+        if stays_at(value, at):
+            raise BadNodes(at)
+
+
+def check_rising(value, least, most):
+    """Raise BadPlaces for a value that is no tuple of least to most rising ratios."""
+    if not has_length(value, least, most):
+        raise BadPlaces()
+    for at in range(len(value)):
+        if stays_at(value, at):
+            raise BadPlaces()
+
+
+def check_spline(value, least=0, most=KNOT_DEGREE, ends=None):
+    """Raise BadSpline for a value that is no spline of such a degree, with these ends if any."""
+    if not has_length(value, 3, 3):
+        raise BadSpline(None)
+    degree, knots, row = value
+    if not is_integer(degree, least, most):
+        raise BadSpline(0)
+    if not are_spline_knots(degree, knots) or (ends is not None and ends_of(value) != ends):
+        raise BadSpline(1)
+    if not are_ratios(row, len(knots) - degree - 1):
+        raise BadSpline(2)
+
+
+def ends_of(spline):
+    """The first and the last knot of a spline."""
+    return (spline[1][0], spline[1][-1])
+
+
+def check_pieces(value, degree):
+    """Raise BadPieces for a value that is no pieces of a degree."""
+    if not has_length(value, 1, MOST_PIECES):
+        raise BadPieces(None)
+    for at, piece in enumerate(value):
+        if not is_piece(piece, degree) or (at > 0 and piece[0][0] != value[at - 1][0][1]):
+            raise BadPieces(at)

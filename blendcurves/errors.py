@@ -63,3 +63,39 @@ class BadKnots(BlendError):
 
     def __init__(self, index):
         self.index = index
+
+
+class BadSpline(BlendError):
+    """A value is not a spline; index tells the first wrong part, None the whole."""
+
+    def __init__(self, index):
+        self.index = index
+
+
+class BadPlace(BlendError):
+    """A value is not a place, or not one of those that are allowed there."""
+
+
+class BadPieces(BlendError):
+    """A value is not pieces; index tells the first wrong item, None the whole."""
+
+    def __init__(self, index):
+        self.index = index
+
+
+class TooFull(BlendError):
+    """A knot stands as often as it may already."""
+
+
+class TooMany(BlendError):
+    """An answer would have more than most knots."""
+
+    def __init__(self, most):
+        self.most = most
+
+
+class BadMatrix(BlendError):
+    """A value is not a matrix; row tells the first wrong row, None the whole."""
+
+    def __init__(self, row):
+        self.row = row

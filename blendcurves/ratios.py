@@ -4,7 +4,7 @@ The functions whose names do not stand in the document take what was checked
 before.
 """
 
-from math import gcd
+from math import gcd, lcm
 
 from blendcurves.errors import BadRatio, DividesByZero
 
@@ -101,3 +101,11 @@ def total_of(numbers):
 def between(one, other, part):
     """The ratio that is one for the part 0, other for 1, in proportion elsewhere."""
     return plus(one, times(part, minus(other, one)))
+
+
+def ascending(numbers):
+    """The list of ratios in ascending order, equal ones side by side."""
+    whole = 1
+    for number in numbers:
+        whole = lcm(whole, number[1])
+    return sorted(numbers, key=lambda item: item[0] * (whole // item[1]))

@@ -2,8 +2,10 @@
 
 import unittest
 from fractions import Fraction
+from functools import lru_cache
 from random import Random
 
+from blendcurves.bsplines import spline_pieces
 from blendcurves.errors import BlendError
 
 
@@ -54,6 +56,114 @@ def with_roots(*roots):
     return product(*[poly(-Fraction(root), 1) for root in roots])
 
 
+def interpolated(pairs):
+    """The Fractions from the power 0 on of the polynomial through pairs (x, y)."""
+    total = [Fraction(0)] * len(pairs)
+    for at, (x, y) in enumerate(pairs):
+        others = [z for number, (z, _) in enumerate(pairs) if number != at]
+        factor = Fraction(y)
+        numbers = [Fraction(1)]
+        for z in others:
+            factor /= x - z
+            numbers = [one - z * other for one, other in zip([0] + numbers, numbers + [0])]
+        total = [one + factor * other for one, other in zip(total, numbers)]
+    return total
+
+
+def derived(numbers):
+    """The derivative of a polynomial of Fractions."""
+    return [power * item for power, item in enumerate(numbers)][1:]
+
+
+def at_fraction(numbers, x):
+    """The value of a polynomial of Fractions."""
+    return sum((item * x ** power for power, item in enumerate(numbers)), Fraction(0))
+
+
+def integrated(numbers, low, high):
+    """The integral of a polynomial of Fractions."""
+    return sum((item * (high ** (power + 1) - low ** (power + 1)) / (power + 1)
+                for power, item in enumerate(numbers)), Fraction(0))
+
+
+def basis(degree, knots, i, x):
+    """The value of a basis function by the recursion that the document gives, with Fractions."""
+    if degree == 0:
+        return Fraction(int(knots[i] <= x < knots[i + 1]))
+    total = Fraction(0)
+    if knots[i + degree] != knots[i]:
+        part = (x - knots[i]) / (knots[i + degree] - knots[i])
+        total += part * basis(degree - 1, knots, i, x)
+    if knots[i + degree + 1] != knots[i + 1]:
+        part = (knots[i + degree + 1] - x) / (knots[i + degree + 1] - knots[i + 1])
+        total += part * basis(degree - 1, knots, i + 1, x)
+    return total
+
+
+def within(low, high, many):
+    """So many Fractions between two, neither of them included."""
+    return [low + (high - low) * Fraction(2 * at + 1, 2 * many) for at in range(many)]
+
+
+def breaks_of(*splines):
+    """The different knots of splines as Fractions, ascending."""
+    return sorted({number_of(knot) for spline in splines for knot in spline[1]})
+
+
+@lru_cache(maxsize=4096)
+def sum_at(spline, x):
+    """The sum of the basis functions at a Fraction, which is 0 at the last knot."""
+    degree, knots, row = spline
+    numbers = numbers_of(knots)
+    return sum((number_of(item) * basis(degree, numbers, i, x) for i, item in enumerate(row)),
+               Fraction(0))
+
+
+@lru_cache
+def parts_of(spline):
+    """Pairs ((low, high), polynomial of Fractions), from values between the knots."""
+    breaks = breaks_of(spline)
+    return [
+        ((low, high), interpolated([(x, sum_at(spline, x))
+                                    for x in within(low, high, spline[0] + 1)]))
+        for low, high in zip(breaks, breaks[1:])
+    ]
+
+
+def spline_at(spline, x):
+    """The value at a Fraction from end to end, at the last knot the limit from below."""
+    (_, high), numbers = parts_of(spline)[-1]
+    return at_fraction(numbers, x) if x == high else sum_at(spline, x)
+
+
+def order_of(one, other, x, most):
+    """The greatest order up to most up to which polynomials of Fractions join, -1 for none."""
+    order = -1
+    while order < most and at_fraction(one, x) == at_fraction(other, x):
+        one, other, order = derived(one), derived(other), order + 1
+    return order
+
+
+def order_at(spline, x):
+    """How smooth a spline is at a Fraction between its ends."""
+    parts = parts_of(spline)
+    left = [numbers for (low, _), numbers in parts if low < x][-1]
+    right = [numbers for (_, high), numbers in parts if x < high][0]
+    return order_of(left, right, x, spline[0])
+
+
+def rank_of(rows):
+    """How many rows of Fractions are no sums of multiples of the ones before."""
+    kept = []
+    for row in rows:
+        for lead, at in kept:
+            row = [one - row[at] / lead[at] * other for one, other in zip(row, lead)]
+        filled = [at for at, number in enumerate(row) if number != 0]
+        if filled:
+            kept.append((row, filled[0]))
+    return len(kept)
+
+
 class Source:
     """Fractions and what is made of them, the same ones in each run."""
 
@@ -74,6 +184,19 @@ class Source:
 
     def row(self, degree):
         return ratios(*self.many(degree + 1))
+
+    def spline(self, degree, inner, most=16):
+        """A spline with up to so many different inner knots, each as often as it comes."""
+        low = self.number()
+        knots = [low] * (degree + 1)
+        high = low
+        for _ in range(inner):
+            high += Fraction(self.random.randint(1, 6), self.random.randint(1, 4))
+            room = most - degree - 1 - len(knots)
+            knots += [high] * min(self.random.randint(1, degree + 1), room)
+        high += Fraction(self.random.randint(1, 6), self.random.randint(1, 4))
+        knots += [high] * (degree + 1)
+        return (degree, ratios(*knots), ratios(*self.many(len(knots) - degree - 1)))
 
     def interval(self):
         low = self.number()
@@ -111,6 +234,19 @@ class Case(unittest.TestCase):
     def same(self, found, due):
         self.assertEqual(found, due)
         self.assertTrue(alike(found, due))
+
+    def has_values(self, spline, function, *others):
+        """The spline has the values of a function of Fractions, also between knots of others."""
+        breaks = breaks_of(spline, *others)
+        due = breaks_of(*others)
+        self.assertEqual((breaks[0], breaks[-1]), (due[0], due[-1]))
+        places = breaks + [x for ends in zip(breaks, breaks[1:]) for x in within(*ends, 5)]
+        for x in places:
+            self.assertEqual(spline_at(spline, x), function(x))
+
+    def is_spline(self, value):
+        """The value is one: kinds of parts, ends, how often knots stand, how many they are."""
+        self.assertIsNone(outcome(spline_pieces, (value,)))
 
     def fails(self, name, function, *arguments, **fields):
         self.assertEqual(outcome(function, arguments), (name, fields))
@@ -183,6 +319,91 @@ WRONG_INTERVAL = wrong_tuple("BadInterval", 2) + wrong("BadInterval", [
 def wrong_integer(name, least, most):
     return wrong(name, [least - 1, most + 1, -HUGE, HUGE, True, False, None, "1", "", [], [1], {},
                         (), (1,), (1, 1), (0, 1)])
+
+
+def wrong_spline(good, without=()):
+    """Wrong values in place of a spline of a degree above 0; without tells degrees not right."""
+    degree, knots, row = good
+    least = 2 * degree + 2
+    first, last = knots[0], knots[-1]
+    top = ratio_of(number_of(last) + 1)
+    ends = [first] * (degree + 1), [last] * (degree + 1)
+    wrong_ones = list(NOT_TUPLES) + [
+        (), knots[1:], knots[:-1], (knots[0],) + knots, knots + (knots[-1],), knots + (top,),
+        list(knots), (first,) * least, (first,) * (degree + 1), knots[::-1],
+        tuple(ends[0] * 2), tuple(ends[0] + ends[1][1:]), tuple(ends[0][1:] + ends[1]),
+        tuple(ends[0] + [last] + ends[1]), tuple([first] + ends[0] + ends[1]),
+        tuple(ends[0] + [None] + ends[1]), tuple([(0, 2)] * (degree + 1) + ends[1]),
+        tuple(ratios(*range(least))), tuple(ratios(*range(17))),
+        tuple(ratios(*[0] * (degree + 1), *range(1, 16 - 2 * degree), *[99] * (degree + 1))),
+    ]
+    whole = list(NOT_TUPLES) + [(), good[:2], good[:1], good + (row,), list(good), (good,)]
+    whole += [(degree, knots, row, None), ((degree, knots), row)]
+    found = wrong("BadSpline", whole, index=None)
+    degrees = [value for value, _ in wrong_integer("BadSpline", 0, 4)] + list(without)
+    found += wrong("BadSpline", [(item, knots, row) for item in degrees], index=0)
+    found += wrong("BadSpline", [(item, None, []) for item in degrees], index=0)
+    found += wrong("BadSpline", [(degree, item, row) for item in wrong_ones], index=1)
+    found += wrong("BadSpline", [(degree, item, None) for item in wrong_ones], index=1)
+    rows = [value for value, _ in wrong_tuple("BadSpline", len(row))]
+    return found + wrong("BadSpline", [(degree, knots, item) for item in rows], index=2)
+
+
+def wrong_breaks(least, most):
+    """Wrong values for a tuple of least to most rising ratios whose error tells the index."""
+    good = ratios(*range(least))
+    return (
+        wrong("BadNodes", NOT_TUPLES + ((), good[1:], ratios(*range(most + 1)), list(good)),
+              index=None)
+        + wrong_items("BadNodes", good)
+        + wrong("BadNodes", [ratios(0, 0), ratios(1, 0), ratios(0, "-1/2", 1)], index=1)
+        + wrong("BadNodes", [ratios(0, 1, 1), ratios(0, 2, 1, 0), ratios(0, 1, 1, 1)], index=2)
+        + wrong("BadNodes", [ratios(*range(most - 1), most - 2)], index=most - 1)
+        + wrong("BadNodes", [ratios(*range(most - 1)) + (1,)], index=most - 1)
+    )
+
+
+def wrong_rising(least, most):
+    """Wrong values for a tuple of least to most rising ratios whose error tells no index."""
+    return wrong("BadPlaces", [value for value, _ in wrong_breaks(least, most)])
+
+
+def wrong_matrix():
+    """Wrong values for a matrix."""
+    good = (ratios(1, 2), ratios(3, 5))
+    rows = list(NOT_TUPLES) + [(), list(good[0]), good[0] * 3, good]
+    rows += [(item, ONE) for item in ODD_ITEMS] + [(ONE, item) for item in ODD_ITEMS]
+    shorter = [ratios(1), ratios(1, 2, 3), ratios(1, 2, 3, 4, 5)]
+    found = wrong("BadMatrix", NOT_TUPLES + ((), good * 3, list(good), [good]), row=None)
+    found += wrong("BadMatrix", [(item,) for item in rows], row=0)
+    found += wrong("BadMatrix", [(item, item) for item in rows], row=0)
+    found += wrong("BadMatrix", [(item,) + good for item in rows], row=0)
+    found += wrong("BadMatrix", [good[:1] + (item,) for item in rows + shorter], row=1)
+    found += wrong("BadMatrix", [good + (item, item) for item in rows + shorter], row=2)
+    return found + wrong("BadMatrix", [good * 2 + (item,) for item in rows + shorter], row=4)
+
+
+def wrong_pieces(degree):
+    """Wrong values for pieces of a degree."""
+    right = (ratios(0, 1), poly(*[1] * (degree + 1)))
+    after = (ratios(1, 3), ())
+    items = list(ODD_ITEMS) + [right[0], right[1], right[:1], right + (None,), list(right)]
+    items += [(item, ()) for item, _ in WRONG_INTERVAL]
+    items += [(right[0], item) for item, _ in WRONG_POLY] + [right[::-1]]
+    items += [(right[0], poly(*[0] * (degree + 1), 1)), (right[0], poly(*[1] * 13))]
+    found = wrong("BadPieces", NOT_TUPLES + ((), (right,) * 9, [right], {0: right}), index=None)
+    found += wrong("BadPieces", [(item,) for item in items], index=0)
+    found += wrong("BadPieces", [(item, None) for item in items], index=0)
+    found += wrong("BadPieces", [(right, item) for item in items], index=1)
+    found += wrong("BadPieces", [(right, after, item) for item in items], index=2)
+    # Pieces that do not begin where the one before ends.
+    apart = [(ratios(*ends), ()) for ends in [(2, 3), (0, 1), ("1/2", 3), (0, 3), (-1, 0)]]
+    found += wrong("BadPieces", [(right, item) for item in apart], index=1)
+    found += wrong("BadPieces", [(right, after, item) for item in apart], index=2)
+    found += wrong("BadPieces", [(right, apart[0], apart[0], None)], index=1)
+    line = [(ratios(at, at + 1), ()) for at in range(9)]
+    found += wrong("BadPieces", [tuple(line)], index=None)
+    return found + wrong("BadPieces", [tuple(line[:7]) + (line[8],)], index=7)
 
 
 def wrong_knots(degree):

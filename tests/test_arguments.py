@@ -6,15 +6,22 @@ from copy import deepcopy
 from blendcurves.beziers import lowered, poly_of, raised, row_mean, row_of, row_product, row_value
 from blendcurves.beziers import slopes, split
 from blendcurves.blossoms import blossom
+from blendcurves.bsplines import spline_integral, spline_pieces, spline_value
 from blendcurves.dividing import data_of, divided, divided_of, through
+from blendcurves.fitting import approximant, can_fit, fitted, nearest_row, table_at
+from blendcurves.joining import from_pieces, raised_spline, slope_spline, space_size
+from blendcurves.joining import spline_product, spline_sum
 from blendcurves.knots import basis_pieces, basis_value, coefficients, greville
+from blendcurves.minors import determinant, least_minor
 from blendcurves.polys import add, common, composed, divide, integral, multiply, slope, value
 from blendcurves.ratios import compare, ratio
+from blendcurves.refining import inserted, refined, removed, smoothness
 from blendcurves.signs import all_roots, boxes, chain, changes, counted_roots, is_positive
 from blendcurves.signs import positive_degree, roots_in, shows_boxes
 from tests.helper import WRONG_INTERVAL, WRONG_NODES, WRONG_NONZERO, WRONG_POLY, WRONG_RATIO
 from tests.helper import WRONG_ROW, Case, alike, outcome, poly, ratios, wrong, wrong_integer
-from tests.helper import wrong_knots, wrong_tuple
+from tests.helper import wrong_breaks, wrong_knots, wrong_matrix, wrong_pieces, wrong_rising
+from tests.helper import wrong_spline, wrong_tuple
 
 WRONG_TOP = wrong("BadRatio", [True, False, None, "1", "", [], [1], {}, (), (1, 1)])
 WRONG_LOW = WRONG_TOP + wrong("DividesByZero", [0])
@@ -34,6 +41,21 @@ WRONG_KNOT_DEGREE = wrong_integer("BadDegree", 0, 4)
 WRONG_KNOTS = wrong_knots(2)
 WRONG_INDEX = wrong_integer("BadNumber", 0, 2)
 WRONG_WIDE = WRONG_RATIO + wrong("BadRatio", [(0, 1), (-1, 2), (-3, 1)])
+
+SPLINE = (2, KNOTS[:3] + ratios(1, 2, 2, 2), ratios(1, "1/2", -3, 0))
+WRONG_SPLINE = wrong_spline(SPLINE)
+WRONG_PLACE = wrong("BadPlace", [item for item, _ in WRONG_RATIO] + [(-1, 1), (9, 4), (-1, 99)])
+WRONG_BETWEEN = WRONG_PLACE + wrong("BadPlace", [(0, 1), (2, 1)])
+WRONG_INNER = WRONG_BETWEEN + wrong("BadPlace", [(1, 2)])
+WRONG_MORE_KNOTS = wrong_knots(2) + wrong("BadKnots", [
+    ratios(0, 0, 0, 2, 2, 2), ratios(0, 0, 1, 2, 2, 2), ratios(-1, 0, 0, 0, 1, 2, 2, 2),
+], index=None)
+PLAIN = (1, ratios(0, 0, 2, 2), ratios(1, 5))
+OTHER_ENDS = wrong("BadSpline", [(2, ratios(0, 0, 0, 3, 3, 3), ratios(1, 2, 3)),
+                                 (2, ratios(1, 1, 1, 2, 2, 2), ratios(1, 2, 3))], index=1)
+PIECES = ((ratios(0, 1), poly(1, 2)), (ratios(1, 3), poly("7/2", 0, "-1/2")))
+PLACES = ratios(0, "1/2", 1, "3/2")
+MATRIX = (ratios(1, 2), ratios(3, 5))
 
 # A function, arguments that are right, and for each one the wrong values and their errors.
 CALLS = [
@@ -80,6 +102,31 @@ CALLS = [
     (greville, (2, KNOTS), (wrong_integer("BadDegree", 1, 4), WRONG_KNOTS)),
     (coefficients, (CUBE, 3, ratios(0, 0, 1, 1, 2, 3)),
      (WRONG_POLY, wrong_integer("BadDegree", 3, 4) + wrong("BadDegree", [0, 1]), wrong_knots(3))),
+    (spline_value, (SPLINE, (1, 2)), (WRONG_SPLINE, WRONG_PLACE)),
+    (spline_pieces, (SPLINE,), (WRONG_SPLINE,)),
+    (spline_integral, (SPLINE,), (WRONG_SPLINE,)),
+    (inserted, (SPLINE, (1, 2)), (WRONG_SPLINE, WRONG_BETWEEN)),
+    (refined, (SPLINE, SPLINE[1]), (WRONG_SPLINE, WRONG_MORE_KNOTS)),
+    (smoothness, (SPLINE, (1, 2)), (WRONG_SPLINE, WRONG_BETWEEN)),
+    (removed, (SPLINE, (1, 1)), (WRONG_SPLINE, WRONG_INNER)),
+    (raised_spline, (SPLINE,), (WRONG_SPLINE,)),
+    (slope_spline, (SPLINE,), (wrong_spline(SPLINE, (0,)),)),
+    (spline_sum, (SPLINE, SPLINE),
+     (WRONG_SPLINE, wrong_spline(SPLINE, (0, 1, 3, 4)) + OTHER_ENDS)),
+    (spline_product, (SPLINE, PLAIN), (WRONG_SPLINE, wrong_spline(PLAIN) + OTHER_ENDS)),
+    (from_pieces, (2, PIECES), (WRONG_KNOT_DEGREE, wrong_pieces(2))),
+    (space_size, (ratios(0, 1, 3), 3, 2),
+     (wrong_breaks(2, 6), WRONG_KNOT_DEGREE, wrong_integer("BadNumber", -1, 3))),
+    (table_at, (2, SPLINE[1], PLACES), (WRONG_KNOT_DEGREE, WRONG_KNOTS, wrong_rising(4, 12))),
+    (can_fit, (2, SPLINE[1], PLACES), (WRONG_KNOT_DEGREE, WRONG_KNOTS, wrong_rising(4, 4))),
+    (fitted, (2, SPLINE[1], PLACES, PLACES),
+     (WRONG_KNOT_DEGREE, WRONG_KNOTS, wrong_rising(4, 4), wrong_tuple("BadData", 4))),
+    (nearest_row, (2, SPLINE[1], PLACES, PLACES),
+     (WRONG_KNOT_DEGREE, WRONG_KNOTS, wrong_rising(4, 12), wrong_tuple("BadData", 4))),
+    (approximant, (CUBE, 2, KNOTS), (WRONG_POLY, wrong_integer("BadDegree", 1, 4), WRONG_KNOTS)),
+    (determinant, (MATRIX,),
+     (wrong_matrix() + wrong("BadMatrix", [MATRIX[:1], (PLACES[:1],) * 2], row=None),)),
+    (least_minor, (MATRIX,), (wrong_matrix(),)),
 ]
 
 

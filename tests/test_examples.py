@@ -2,6 +2,8 @@
 
 import unittest
 
+from blendcurves.errors import BlendError
+
 EXAMPLES = r"""
 >>> from blendcurves.ratios import compare, ratio
 >>> [ratio(4, -6), compare((1, 2), (2, 3))]
@@ -38,7 +40,44 @@ True
 >>> hat = ((0, 1), (1, 1), (2, 1))
 >>> [basis_value(1, hat, 0, (1, 2)), basis_pieces(1, hat, 0), greville(2, ((0, 1),) * 3 + ((1, 1),) * 3), coefficients(((0, 1), (1, 1)), 1, ((0, 1), (0, 1), (1, 1), (1, 1)))]
 [(1, 2), ((((0, 1), (1, 1)), ((0, 1), (1, 1))), (((1, 1), (2, 1)), ((2, 1), (-1, 1)))), ((0, 1), (1, 2), (1, 1)), ((0, 1), (1, 1))]
+
+>>> from blendcurves.bsplines import spline_integral, spline_value
+>>> spline = (1, ((0, 1), (0, 1), (1, 1), (2, 1), (2, 1)), ((0, 1), (1, 1), (0, 1)))
+>>> [spline_value(spline, (1, 2)), spline_integral(spline)]
+[(1, 2), (1, 1)]
+>>> from blendcurves.bsplines import spline_value
+>>> spline_value((0, ((0, 1), (1, 1)), ((5, 1),)), (3, 1))
+raises BadPlace
+
+>>> from blendcurves.refining import inserted, removed, smoothness
+>>> curve = (2, ((0, 1),) * 3 + ((1, 1),) * 3, ((0, 1), (1, 1), (0, 1)))
+>>> more = inserted(curve, (1, 2))
+>>> [more, smoothness(more, (1, 2)), removed(more, (1, 2)) == curve]
+[(2, ((0, 1), (0, 1), (0, 1), (1, 2), (1, 1), (1, 1), (1, 1)), ((0, 1), (1, 2), (1, 2), (0, 1))), 2, True]
+
+>>> from blendcurves.joining import raised_spline, slope_spline, space_size, spline_product
+>>> hat = (1, ((0, 1), (0, 1), (1, 1), (2, 1), (2, 1)), ((0, 1), (1, 1), (0, 1)))
+>>> [slope_spline(hat)[2], raised_spline(hat)[2], spline_product(hat, hat)[2], space_size(((0, 1), (1, 1), (2, 1)), 3, 1)]
+[((1, 1), (-1, 1)), ((0, 1), (1, 2), (1, 1), (1, 2), (0, 1)), ((0, 1), (0, 1), (1, 1), (0, 1), (0, 1)), 6]
+
+>>> from blendcurves.fitting import can_fit, fitted, nearest_row
+>>> hats = ((0, 1), (0, 1), (1, 1), (2, 1), (2, 1))
+>>> [can_fit(1, hats, ((0, 1), (1, 2), (1, 1))), fitted(1, hats, ((0, 1), (1, 1), (3, 2)), ((1, 1), (2, 1), (3, 1))), nearest_row(0, ((0, 1), (4, 1)), ((1, 1), (2, 1)), ((1, 1), (4, 1)))]
+[False, ((1, 1), (2, 1), (4, 1)), ((5, 2),)]
+
+>>> from blendcurves.minors import determinant, least_minor
+>>> [determinant((((1, 1), (2, 1)), ((3, 1), (4, 1)))), least_minor((((1, 1), (1, 1)), ((1, 1), (2, 1))))]
+[(-2, 1), (1, 1)]
 """
+
+
+def shown(line, names):
+    """What the document shows below a line."""
+    try:
+        return repr(eval(line, names))
+    except BlendError as error:
+        fields = ", ".join(f"{name}={value!r}" for name, value in vars(error).items())
+        return f"raises {error.__class__.__name__}" + (f"({fields})" if fields else "")
 
 
 def run_example(text):
@@ -50,7 +89,7 @@ def run_example(text):
         if not line.startswith(">>> "):
             continue
         if at + 1 < len(lines) and not lines[at + 1].startswith(">>> "):
-            pairs.append((repr(eval(line[4:], names)), lines[at + 1]))
+            pairs.append((shown(line[4:], names), lines[at + 1]))
         else:
             exec(line[4:], names)
     return pairs

@@ -33,11 +33,30 @@ ARGUMENTS = {
         "basis_value": "degree knots index x", "basis_pieces": "degree knots index",
         "greville": "degree knots", "coefficients": "poly degree knots",
     },
+    "bsplines": {
+        "spline_value": "spline x", "spline_integral": "spline", "spline_pieces": "spline",
+    },
+    "refining": {
+        "inserted": "spline x", "refined": "spline knots", "smoothness": "spline x",
+        "removed": "spline x",
+    },
+    "joining": {
+        "raised_spline": "spline", "slope_spline": "spline", "spline_sum": "one other",
+        "spline_product": "one other", "from_pieces": "degree pieces",
+        "space_size": "breaks degree order",
+    },
+    "fitting": {
+        "table_at": "degree knots places", "can_fit": "degree knots places",
+        "fitted": "degree knots places data", "nearest_row": "degree knots places data",
+        "approximant": "poly degree knots",
+    },
+    "minors": {"determinant": "matrix", "least_minor": "matrix"},
 }
 FIELDS = {
     "BadRatio": "", "BadPolynomial": "", "DividesByZero": "", "TooLarge": "most",
     "BadNodes": "index", "BadData": "", "BadDegree": "", "BadPlaces": "", "BadRow": "index",
-    "BadInterval": "", "BadNumber": "", "BadKnots": "index",
+    "BadInterval": "", "BadNumber": "", "BadKnots": "index", "BadSpline": "index", "BadPlace": "",
+    "BadPieces": "index", "TooFull": "", "TooMany": "most", "BadMatrix": "row",
 }
 
 

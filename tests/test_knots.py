@@ -6,8 +6,8 @@ from itertools import combinations
 from math import comb, prod
 
 from blendcurves.knots import basis_pieces, basis_value, coefficients, greville
-from tests.helper import HUGE, ONE, Case, Source, number_of, numbers_of, poly, ratio_of, ratios
-from tests.helper import value_of, wrong_knots
+from tests.helper import HUGE, ONE, Case, Source, basis, number_of, numbers_of, poly, ratio_of
+from tests.helper import ratios, value_of, wrong_knots
 
 HAT = ratios(0, 1, 2)
 # Pairs of a degree and knots, some of them standing degree + 1 times, at the ends and within.
@@ -20,20 +20,6 @@ KNOTS = [
     (4, ratios(0, 0, 0, 0, 0, 1, 3, 3, 3, 3, 3, 4, 5, 5, 5, 5)), (4, ratios(*range(6))),
     (4, ratios(*[0] * 5, *[1] * 5)), (4, ratios(*range(-8, 8))), (3, ratios(0, 0, 0, 0, HUGE)),
 ]
-
-
-def basis(degree, knots, i, x):
-    """The value by the recursion that the document gives, with Fractions."""
-    if degree == 0:
-        return Fraction(int(knots[i] <= x < knots[i + 1]))
-    total = Fraction(0)
-    if knots[i + degree] != knots[i]:
-        part = (x - knots[i]) / (knots[i + degree] - knots[i])
-        total += part * basis(degree - 1, knots, i, x)
-    if knots[i + degree + 1] != knots[i + 1]:
-        part = (knots[i + degree + 1] - x) / (knots[i + degree + 1] - knots[i + 1])
-        total += part * basis(degree - 1, knots, i + 1, x)
-    return total
 
 
 def places_of(knots):

@@ -6,7 +6,10 @@ import unittest
 from pathlib import Path
 
 FOLDER = Path(__file__).resolve().parent.parent / "blendcurves"
-LIBRARY = {"math": {"gcd", "lcm", "isqrt", "comb", "perm", "factorial"}}
+LIBRARY = {
+    "math": {"gcd", "lcm", "isqrt", "comb", "perm", "factorial"},
+    "itertools": {"combinations"},
+}
 BUILTINS = set(
     "len range enumerate zip min max sum abs sorted reversed int str bool list tuple dict set "
     "isinstance ord repr any all divmod type ValueError".split()
@@ -16,8 +19,8 @@ METHODS = set(
     "items join keys partition pop remove replace reverse split startswith strip values".split()
 )
 BARRED = (
-    ast.Lambda, ast.Global, ast.Try, ast.AsyncFunctionDef, ast.Pow, ast.Div, ast.Set, ast.SetComp,
-    ast.JoinedStr, ast.Starred, ast.Yield, ast.With, ast.Delete,
+    ast.Global, ast.Try, ast.AsyncFunctionDef, ast.Pow, ast.Div, ast.Set, ast.SetComp,
+    ast.JoinedStr, ast.Yield, ast.With, ast.Delete,
 )
 
 
@@ -126,6 +129,8 @@ class Language(unittest.TestCase):
                     self.assertEqual(node.decorator_list, [])
                 if isinstance(node, ast.Call) and isinstance(node.func, ast.Attribute):
                     self.assertIn(node.func.attr, METHODS, (name, node.lineno))
+                if isinstance(node, ast.Starred):
+                    self.assertIsInstance(node.value, ast.Name, (name, node.lineno))
                 if isinstance(node, ast.Constant):
                     self.assertNotIsInstance(node.value, float)
                     self.assertNotIn("%", node.value if isinstance(node.value, str) else "")
