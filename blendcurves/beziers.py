@@ -64,8 +64,7 @@ def split(row, t):
     """The pair of rows that tell the polynomial from 0 to t and from t to 1."""
     check_row(row)
     check_ratio(t)
-    steps = averages_of(row, t)
-    return (tuple([step[0] for step in steps]), tuple([step[-1] for step in steps[::-1]]))
+    return split_of(row, t)
 
 
 def slopes(row):
@@ -132,3 +131,9 @@ def averages_of(row, t):
         last = steps[-1]
         steps.append([between(one, after, t) for one, after in zip(last, last[1:])])
     return steps
+
+
+def split_of(row, t):
+    """The pair of rows that tell the polynomial from 0 to t and from t to 1."""
+    steps = averages_of(row, t)
+    return (tuple([step[0] for step in steps]), tuple([step[-1] for step in steps[::-1]]))

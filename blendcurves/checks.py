@@ -1,9 +1,9 @@
 """Checks of arguments: each raises the error of its kind of value."""
 
 from blendcurves.errors import BadData, BadDegree, BadInterval, BadKnots, BadNodes
-from blendcurves.errors import BadNumber, BadPieces, BadPlaces, BadPolynomial, BadRatio, BadRow
-from blendcurves.errors import BadSpline
-from blendcurves.ratios import ZERO, is_below, is_ratio, is_whole
+from blendcurves.errors import BadNumber, BadPieces, BadPlaces, BadPoints, BadPolynomial
+from blendcurves.errors import BadRatio, BadRow, BadSpline, BadWeights
+from blendcurves.ratios import ONE, ZERO, is_below, is_ratio, is_whole
 
 HIGHEST_POWER = 12
 MOST_NODES = 8
@@ -21,6 +21,16 @@ def are_ratios(value, many):
 def is_interval(value):
     """Tell whether any value is an interval."""
     return are_ratios(value, 2) and is_below(value[0], value[1])
+
+
+def is_above_zero(value):
+    """Tell whether any value is a ratio above 0."""
+    return is_ratio(value) and is_below(ZERO, value)
+
+
+def is_point(value):
+    """Tell whether any value is a point."""
+    return are_ratios(value, 2)
 
 
 def has_length(value, least, most):
@@ -139,7 +149,7 @@ def check_number(value, least, most):
 
 def check_above_zero(value):
     """Raise BadRatio for a value that is no ratio above 0."""
-    if not is_ratio(value) or not is_below(ZERO, value):
+    if not is_above_zero(value):
         raise BadRatio()
 
 
@@ -195,3 +205,24 @@ def check_pieces(value, degree):
     for at, piece in enumerate(value):
         if not is_piece(piece, degree) or (at > 0 and piece[0][0] != value[at - 1][0][1]):
             raise BadPieces(at)
+
+
+def check_points(value, least, most):
+    """Raise BadPoints for a value that is no tuple of least to most points."""
+    if not has_length(value, least, most):
+        raise BadPoints(None)
+    for at, item in enumerate(value):
+        if not is_point(item):
+            raise BadPoints(at)
+
+
+def check_weights(value, many):
+    """Raise BadWeights for a value that is no tuple of so many ratios above 0."""
+    if not has_length(value, many, many) or not all([is_above_zero(item) for item in value]):
+        raise BadWeights()
+
+
+def check_part(value):
+    """Raise BadRatio for a value that is no ratio between 0 and 1."""
+    if not is_above_zero(value) or not is_below(value, ONE):
+        raise BadRatio()

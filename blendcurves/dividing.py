@@ -18,11 +18,7 @@ def through(nodes, data):
     """The polynomial of a degree less than the number of nodes with these data."""
     check_nodes(nodes)
     check_data(data, len(nodes))
-    numbers = differences(nodes, data)
-    answer = ()
-    for node, number in zip(nodes[::-1], numbers[::-1]):
-        answer = sum_of(product_of(answer, (opposite(node), ONE)), trimmed([number]))
-    return answer
+    return poly_through(nodes, data)
 
 
 def divided(nodes, data):
@@ -46,6 +42,15 @@ def data_at(poly, nodes):
         derived = slope_of(derived) if at > 0 and nodes[at - 1] == node else poly
         data.append(value_at(derived, node))
     return tuple(data)
+
+
+def poly_through(nodes, data):
+    """The polynomial of a degree less than the number of nodes with these data."""
+    numbers = differences(nodes, data)
+    answer = ()
+    for node, number in zip(nodes[::-1], numbers[::-1]):
+        answer = sum_of(product_of(answer, (opposite(node), ONE)), trimmed([number]))
+    return answer
 
 
 def differences(nodes, data):

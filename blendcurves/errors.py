@@ -99,3 +99,25 @@ class BadMatrix(BlendError):
 
     def __init__(self, row):
         self.row = row
+
+
+class BadPoints(BlendError):
+    """A value is not points; index tells the first wrong item, None the whole."""
+
+    def __init__(self, index):
+        self.index = index
+
+
+class BadWeights(BlendError):
+    """A value is not a tuple of as many ratios above 0 as are due."""
+
+
+class BadCurve(BlendError):
+    """A value is not a curve; index tells the first wrong part, None the whole."""
+
+    def __init__(self, index):
+        self.index = index
+
+
+class BadEquation(BlendError):
+    """A value is not an equation."""

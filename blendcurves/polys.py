@@ -58,8 +58,7 @@ def integral(poly, low, high):
     check_polynomial(poly)
     check_ratio(low)
     check_ratio(high)
-    whole = [ZERO] + [over(number, (power + 1, 1)) for power, number in enumerate(poly)]
-    return minus(value_at(whole, high), value_at(whole, low))
+    return integral_of(poly, low, high)
 
 
 def composed(one, other):
@@ -163,3 +162,9 @@ def shared_by(one, other):
 def slope_of(poly):
     """The derivative of a polynomial."""
     return tuple([times(number, (power, 1)) for power, number in enumerate(poly)][1:])
+
+
+def integral_of(poly, low, high):
+    """The integral of a polynomial from low to high."""
+    whole = [ZERO] + [over(number, (power + 1, 1)) for power, number in enumerate(poly)]
+    return minus(value_at(whole, high), value_at(whole, low))

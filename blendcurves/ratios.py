@@ -109,3 +109,18 @@ def ascending(numbers):
     for number in numbers:
         whole = lcm(whole, number[1])
     return sorted(numbers, key=lambda item: item[0] * (whole // item[1]))
+
+
+def whole_numbers(numbers):
+    """The integers in the proportions of ratios, not all 0, without a common divisor above 1.
+
+    The first one that is not 0 is above 0.
+    """
+    whole, shared = 1, 0
+    for number in numbers:
+        whole, shared = lcm(whole, number[1]), gcd(shared, number[0])
+    # In lowest terms, all tops over shared and the whole over all bottoms have no divisor left.
+    first = [number[0] for number in numbers if number != ZERO][0]
+    if first < 0:
+        shared = -shared
+    return tuple([number[0] // shared * (whole // number[1]) for number in numbers])

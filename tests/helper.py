@@ -368,6 +368,53 @@ def wrong_rising(least, most):
     return wrong("BadPlaces", [value for value, _ in wrong_breaks(least, most)])
 
 
+def wrong_points(least, most):
+    """Wrong values for a tuple of least to most points."""
+    good = tuple(ratios(at, at * at) for at in range(least))
+    more = (ratios(1, 1),) * (most + 1 - least)
+    items = list(NOT_TUPLES) + list(ODD_ITEMS) + [ratios(1, 2, 3), ratios(1), list(good[0]), good]
+    items += [(item, ONE) for item in ODD_ITEMS] + [(ONE, item) for item in ODD_ITEMS]
+    found = wrong("BadPoints", NOT_TUPLES + ((), good[1:], good + more, list(good)), index=None)
+    for at in range(least):
+        found += wrong("BadPoints", [good[:at] + (item,) + good[at + 1:] for item in items], index=at)
+        found += wrong("BadPoints", [good[:at] + (item,) * (least - at) for item in items], index=at)
+    return found
+
+
+def wrong_above_zero(name, many):
+    """Wrong values for a tuple of so many ratios above 0."""
+    good = ratios(*range(1, many + 1))
+    found = wrong_tuple(name, many)
+    for at in range(many):
+        for item in ((0, 1), (-1, 1), (-3, 7)):
+            found += wrong(name, [good[:at] + (item,) + good[at + 1:]])
+    return found
+
+
+def wrong_equation():
+    """Wrong values for an equation."""
+    good = (1, 2, 3, 4, 5, 6)
+    values = list(NOT_TUPLES) + [(), good[1:], good + (7,), list(good), (0,) * 6, (0,) * 5 + (1,)]
+    values += [good[:at] + (item,) + good[at + 1:] for at in range(6)
+               for item in (None, True, False, "1", [1], (1, 1), {}, ())]
+    return wrong("BadEquation", values)
+
+
+def wrong_curve():
+    """Wrong values for a curve."""
+    good = (poly(0, 1), poly(1, 2, 3, 4))
+    parts = [value for value, _ in WRONG_NONZERO] + [poly(5), poly(0, 0, 0, 0, 1), poly(*[1] * 13)]
+    found = wrong("BadCurve", NOT_TUPLES + ((), good[:1], good + good[:1], list(good)), index=None)
+    found += wrong("BadCurve", [(item, good[1]) for item in parts], index=0)
+    found += wrong("BadCurve", [(item, item) for item in parts], index=0)
+    return found + wrong("BadCurve", [(good[0], item) for item in parts], index=1)
+
+
+def wrong_line():
+    """Wrong values for the numbers of a line."""
+    return wrong_tuple("BadData", 3) + wrong("BadData", [ratios(0, 0, 0), ratios(0, 0, 5)])
+
+
 def wrong_matrix():
     """Wrong values for a matrix."""
     good = (ratios(1, 2), ratios(3, 5))

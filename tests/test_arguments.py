@@ -7,20 +7,26 @@ from blendcurves.beziers import lowered, poly_of, raised, row_mean, row_of, row_
 from blendcurves.beziers import slopes, split
 from blendcurves.blossoms import blossom
 from blendcurves.bsplines import spline_integral, spline_pieces, spline_value
+from blendcurves.conics import conic_kind, conic_point, conic_split, equation, equation_kind
+from blendcurves.conics import equation_value, through_five
 from blendcurves.dividing import data_of, divided, divided_of, through
 from blendcurves.fitting import approximant, can_fit, fitted, nearest_row, table_at
+from blendcurves.implicit import crossings, curve_point, implicit
 from blendcurves.joining import from_pieces, raised_spline, slope_spline, space_size
 from blendcurves.joining import spline_product, spline_sum
 from blendcurves.knots import basis_pieces, basis_value, coefficients, greville
 from blendcurves.minors import determinant, least_minor
+from blendcurves.natural import bending, cubics, natural
 from blendcurves.polys import add, common, composed, divide, integral, multiply, slope, value
 from blendcurves.ratios import compare, ratio
 from blendcurves.refining import inserted, refined, removed, smoothness
+from blendcurves.resultants import discriminant, resultant
 from blendcurves.signs import all_roots, boxes, chain, changes, counted_roots, is_positive
 from blendcurves.signs import positive_degree, roots_in, shows_boxes
 from tests.helper import WRONG_INTERVAL, WRONG_NODES, WRONG_NONZERO, WRONG_POLY, WRONG_RATIO
 from tests.helper import WRONG_ROW, Case, alike, outcome, poly, ratios, wrong, wrong_integer
-from tests.helper import wrong_breaks, wrong_knots, wrong_matrix, wrong_pieces, wrong_rising
+from tests.helper import wrong_above_zero, wrong_breaks, wrong_curve, wrong_equation, wrong_knots
+from tests.helper import wrong_line, wrong_matrix, wrong_pieces, wrong_points, wrong_rising
 from tests.helper import wrong_spline, wrong_tuple
 
 WRONG_TOP = wrong("BadRatio", [True, False, None, "1", "", [], [1], {}, (), (1, 1)])
@@ -56,6 +62,15 @@ OTHER_ENDS = wrong("BadSpline", [(2, ratios(0, 0, 0, 3, 3, 3), ratios(1, 2, 3)),
 PIECES = ((ratios(0, 1), poly(1, 2)), (ratios(1, 3), poly("7/2", 0, "-1/2")))
 PLACES = ratios(0, "1/2", 1, "3/2")
 MATRIX = (ratios(1, 2), ratios(3, 5))
+THREE = (ratios(0, 0), ratios(1, 2), ratios(5, "1/2"))
+FIVE = THREE + (ratios(-1, 1), ratios(0, 3))
+WEIGHTS = ratios(1, "1/2", 3)
+WRONG_THREE, WRONG_FIVE = wrong_points(3, 3), wrong_points(5, 5)
+WRONG_WEIGHTS = wrong_above_zero("BadWeights", 3)
+WRONG_PART = WRONG_RATIO + wrong("BadRatio", [(0, 1), (1, 1), (-1, 2), (3, 2)])
+NUMBERS = (0, 1, -2, 3, 0, 0)
+WRONG_POINT = wrong("BadPoints", [item for item, _ in wrong_tuple("BadPoints", 2)], index=0)
+CURVE = (poly(0, 1, 1), poly(2, 0, 0, "1/3"))
 
 # A function, arguments that are right, and for each one the wrong values and their errors.
 CALLS = [
@@ -127,6 +142,22 @@ CALLS = [
     (determinant, (MATRIX,),
      (wrong_matrix() + wrong("BadMatrix", [MATRIX[:1], (PLACES[:1],) * 2], row=None),)),
     (least_minor, (MATRIX,), (wrong_matrix(),)),
+    (cubics, (PLACES, PLACES, PLACES),
+     (wrong_breaks(2, 7), wrong_tuple("BadData", 4), wrong_tuple("BadData", 4))),
+    (natural, (PLACES, PLACES), (wrong_breaks(2, 7), wrong_tuple("BadData", 4))),
+    (bending, (PIECES,), (wrong_pieces(6),)),
+    (conic_point, (THREE, WEIGHTS, (3, 2)), (WRONG_THREE, WRONG_WEIGHTS, WRONG_RATIO)),
+    (conic_split, (THREE, WEIGHTS, (2, 3)), (WRONG_THREE, WRONG_WEIGHTS, WRONG_PART)),
+    (conic_kind, (WEIGHTS,), (WRONG_WEIGHTS,)),
+    (equation, (THREE, WEIGHTS), (WRONG_THREE, WRONG_WEIGHTS)),
+    (equation_value, (NUMBERS, MATRIX[0]), (wrong_equation(), WRONG_POINT)),
+    (equation_kind, (NUMBERS,), (wrong_equation(),)),
+    (through_five, (FIVE,), (WRONG_FIVE,)),
+    (resultant, (CUBE, CUBE), (WRONG_NONZERO, WRONG_NONZERO)),
+    (discriminant, (CUBE,), (WRONG_NONZERO,)),
+    (curve_point, (CURVE, (2, 3)), (wrong_curve(), WRONG_RATIO)),
+    (implicit, (CURVE,), (wrong_curve(),)),
+    (crossings, (CURVE, WEIGHTS, INTERVAL), (wrong_curve(), wrong_line(), WRONG_INTERVAL)),
 ]
 
 

@@ -68,6 +68,26 @@ raises BadPlace
 >>> from blendcurves.minors import determinant, least_minor
 >>> [determinant((((1, 1), (2, 1)), ((3, 1), (4, 1)))), least_minor((((1, 1), (1, 1)), ((1, 1), (2, 1))))]
 [(-2, 1), (1, 1)]
+
+>>> from blendcurves.natural import bending, natural
+>>> pieces = natural(((0, 1), (1, 1), (2, 1)), ((0, 1), (1, 1), (0, 1)))
+>>> [pieces[0], bending(pieces)]
+[(((0, 1), (1, 1)), ((0, 1), (3, 2), (0, 1), (-1, 2))), (6, 1)]
+
+>>> from blendcurves.conics import conic_kind, conic_point, equation
+>>> points, weights = (((1, 1), (0, 1)), ((1, 1), (1, 1)), ((0, 1), (1, 1))), ((1, 1), (1, 1), (2, 1))
+>>> [equation(points, weights), conic_kind(weights), conic_point(points, weights, (1, 2))]
+[(1, 0, 1, 0, 0, -1), 'ellipse', ((3, 5), (4, 5))]
+
+>>> from blendcurves.resultants import discriminant, resultant
+>>> square = ((-1, 1), (0, 1), (1, 1))
+>>> [resultant(square, ((-2, 1), (1, 1))), discriminant(square)]
+[(3, 1), (4, 1)]
+
+>>> from blendcurves.implicit import crossings, curve_point, implicit
+>>> curve = (((0, 1), (0, 1), (1, 1)), ((0, 1), (0, 1), (0, 1), (1, 1)))
+>>> [implicit(curve), curve_point(curve, (2, 1)), crossings(curve, ((1, 1), (0, 1), (-1, 1)), ((-2, 1), (2, 1)))]
+[(((0, 2), 1), ((3, 0), -1)), ((4, 1), (8, 1)), 2]
 """
 
 

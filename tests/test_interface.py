@@ -51,12 +51,25 @@ ARGUMENTS = {
         "approximant": "poly degree knots",
     },
     "minors": {"determinant": "matrix", "least_minor": "matrix"},
+    "natural": {
+        "cubics": "places data slopes", "natural": "places data", "bending": "pieces",
+    },
+    "conics": {
+        "conic_point": "points weights t", "conic_split": "points weights t",
+        "conic_kind": "weights", "equation": "points weights",
+        "equation_value": "numbers point", "equation_kind": "numbers", "through_five": "points",
+    },
+    "resultants": {"resultant": "one other", "discriminant": "poly"},
+    "implicit": {
+        "curve_point": "curve t", "implicit": "curve", "crossings": "curve line interval",
+    },
 }
 FIELDS = {
     "BadRatio": "", "BadPolynomial": "", "DividesByZero": "", "TooLarge": "most",
     "BadNodes": "index", "BadData": "", "BadDegree": "", "BadPlaces": "", "BadRow": "index",
     "BadInterval": "", "BadNumber": "", "BadKnots": "index", "BadSpline": "index", "BadPlace": "",
     "BadPieces": "index", "TooFull": "", "TooMany": "most", "BadMatrix": "row",
+    "BadPoints": "index", "BadWeights": "", "BadCurve": "index", "BadEquation": "",
 }
 
 
