@@ -4,6 +4,7 @@ from blendcurves.beziers import averages_of, split_of
 from blendcurves.checks import check_part, check_points, check_weights, has_length, is_point
 from blendcurves.errors import BadEquation, BadPoints
 from blendcurves.minors import reduced
+from blendcurves.plane import side, turn
 from blendcurves.ratios import ONE, ZERO, check_ratio, is_below, is_whole, minus, opposite, over
 from blendcurves.ratios import plus, times, total_of, whole_numbers
 
@@ -44,7 +45,7 @@ def equation(points, weights):
     one, two, three = points
     # Each of these is 0 on a side of the triangle, and alike at the corners beyond their sides.
     sides = (side(two, three), side(three, one), side(one, two))
-    if side_value(sides[0], one) == ZERO:
+    if turn(one, two, three) == ZERO:
         return None
     # At t they are as u * (1 - t) * (1 - t), 2 * v * t * (1 - t) and w * t * t.
     ahead = times(weights[0], weights[2])
@@ -113,20 +114,6 @@ def points_of(rows):
     """The pair of points and weights whose rows are these."""
     points = [(over(x, weight), over(y, weight)) for x, y, weight in zip(rows[0], rows[1], rows[2])]
     return (tuple(points), rows[2])
-
-
-def side(one, other):
-    """The numbers a, b, c whose a * x + b * y + c is 0 on the line through two points."""
-    return (
-        minus(one[1], other[1]),
-        minus(other[0], one[0]),
-        minus(times(one[0], other[1]), times(other[0], one[1])),
-    )
-
-
-def side_value(numbers, point):
-    """The value of a * x + b * y + c at a point."""
-    return total_of([times(numbers[0], point[0]), times(numbers[1], point[1]), numbers[2]])
 
 
 def side_product(one, other):

@@ -121,3 +121,27 @@ class BadCurve(BlendError):
 
 class BadEquation(BlendError):
     """A value is not an equation."""
+
+
+class BadNet(BlendError):
+    """A value is not a net, or not one of the degree that is due."""
+
+
+class BadTriangle(BlendError):
+    """A value is not three points that are not in line."""
+
+
+class BadTerms(BlendError):
+    """A value is not an ascending tuple of terms."""
+
+
+class BadCell(BlendError):
+    """The points of a rim do not go around the center once, to the left."""
+
+
+class BadMask(BlendError):
+    """A value is not a mask."""
+
+
+class BadSequence(BlendError):
+    """A value is not a sequence."""

@@ -66,10 +66,7 @@ def composed(one, other):
     check_polynomial(one)
     check_polynomial(other)
     check_size(degree_of(one) * degree_of(other))
-    answer = ()
-    for number in reversed(one):
-        answer = sum_of(product_of(answer, other), trimmed([number]))
-    return answer
+    return composition_of(one, other)
 
 
 def check_size(degree):
@@ -129,6 +126,14 @@ def product_of(one, other):
         for after, factor in enumerate(other):
             numbers[at + after] = plus(numbers[at + after], times(number, factor))
     return trimmed(numbers)
+
+
+def composition_of(one, other):
+    """The polynomial that takes x to one at other at x."""
+    answer = ()
+    for number in reversed(one):
+        answer = sum_of(product_of(answer, other), trimmed([number]))
+    return answer
 
 
 def division_of(one, other):

@@ -465,3 +465,109 @@ def wrong_knots(degree):
         + wrong("BadKnots", [ratios(*range(least), least - 2)], index=least)
         + wrong("BadKnots", [ratios(*range(15), 13)], index=15)
     )
+
+
+def wrong_triple(name, total):
+    """Wrong values for a triple of ratios that add up to an integer."""
+    good = ratios(total, 0, 0)
+    values = list(NOT_TUPLES) + [
+        (), good[:1], good[:2], good + ((0, 1),), list(good), (good,), ((total, 1), (0, 1), [0, 1]),
+        ratios(total, 1, 0), ratios(total, 0, "1/1000"), ratios(total, 0, -HUGE),
+        ratios(total + 1, "-1/2", "-1/3"), ((2 * total, 2), (0, 1), (0, 1)) if total else good * 2,
+        (total, 0, 0),
+    ]
+    for at in range(3):
+        values += [good[:at] + (item,) + good[at + 1:] for item in ODD_ITEMS]
+    return wrong(name, values)
+
+
+def wrong_net(degrees=range(5)):
+    """Wrong values for a net; those of other degrees than these are wrong, too."""
+    good = (ratios(1, 2, 3), ratios(4, 5), ratios(6))
+    values = list(NOT_TUPLES) + [
+        (), ((),), good[:1], good[:2], good + ((),), good + good[2:], good[::-1], good[1:] + good[:1],
+        list(good), [list(row) for row in good], (good,), good[0], (good[0],) * 3, (good[0],) * 2,
+        (ratios(1, 2, 3), ratios(4, 5, 0), ratios(6, 0, 0)), (ratios(1, 2), ratios(1, 2)),
+        tuple(ratios(*range(6 - i)) for i in range(6)), (ratios(1), ratios(1, 2)),
+    ]
+    for at in range(3):
+        items = list(NOT_TUPLES) + [list(good[at]), good[at] + (ONE,), good[at][1:], good]
+        items += [good[at][:-1] + (item,) for item in ODD_ITEMS]
+        items += [(item,) + good[at][1:] for item in ODD_ITEMS]
+        values += [good[:at] + (item,) + good[at + 1:] for item in items]
+    values += [tuple(ratios(*range(degree + 1 - i)) for i in range(degree + 1))
+               for degree in range(5) if degree not in degrees]
+    return wrong("BadNet", values)
+
+
+def wrong_triangle():
+    """Wrong values for a triangle."""
+    line = [((0, 0), (1, 1), (2, 2)), ((0, 0), (2, 2), (1, 1)), ((1, 5), (1, 7), (1, -2)),
+            ((3, 2), (4, 2), (9, 2)), ((1, 1), (1, 1), (2, 3)), ((1, 1), (2, 3), (1, 1)),
+            ((2, 3), (1, 1), (1, 1)), ((5, 5), (5, 5), (5, 5)), ((0, "1/3"), (1, "2/3"), (2, 1))]
+    values = [value for value, _ in wrong_points(3, 3)]
+    return wrong("BadTriangle", values + [tuple(ratios(*pair) for pair in item) for item in line])
+
+
+def wrong_terms():
+    """Wrong values for terms."""
+    good = (((0, 1), (2, 1)), ((2, 0), (1, 3)))
+    powers = [None, True, 0, "00", [0, 1], {}, (), (0,), (0, 1, 2), (0, -1), (-1, 0), (0, True),
+              (False, 0), (0, "1"), (None, 0), (0, (1, 1)), ((0, 1), 1), ([0], 1)]
+    numbers = list(NOT_RATIOS) + [(0, 1)]
+    items = list(NOT_TUPLES) + [(), good[0][:1], good[0] + (ONE,), list(good[0]), good[0][::-1]]
+    items += [(power, ONE) for power in powers] + [((0, 1), number) for number in numbers]
+    values = list(NOT_TUPLES) + [list(good), dict(good), good[::-1], good + good[:1], good + good[1:],
+                                 (good[0], good[0]), good[0], (good,)]
+    values.remove([])
+    values += [[], (((0, 1), ONE), ((0, 0), ONE)), (((1, 0), ONE), ((0, 4), ONE))]
+    values += [(item,) for item in items] + [good + (item,) for item in items]
+    values += [(((0, 0), ONE), item, good[1]) for item in items]
+    return wrong("BadTerms", values)
+
+
+SQUARE = tuple(ratios(*pair) for pair in [(1, 0), (0, 1), (-1, 0), (0, -1)])
+
+
+def wrong_rim():
+    """Wrong values for a rim around (0, 0)."""
+    around = [(2, 0), (1, 2), (-1, 2), (-2, 0), (-1, -2), (1, -2)]
+    others = [
+        # To the right, not all around, twice, three times, there and back.
+        [(1, 0), (0, -1), (-1, 0), (0, 1)], around[::-1], [(1, 0), (1, 1), (0, 1)],
+        [(1, 0), (0, 1), (-1, 0), (0, -1)] * 2, [(1, 0), (-1, 1), (-1, -1)] * 2,
+        [(2, 0), (-1, 2), (-1, -2), (2, 1), (-2, 1), (1, -2)],
+        [(2, 0), (-2, 1), (1, -2), (1, 1), (-2, 0), (1, -1), (0, 1), (-1, -1)],
+        [(1, 0), (0, 1), (-1, 0), (0, 1), (-1, 0), (0, -1)],
+        # A half turn, no turn, the center itself, the same point twice.
+        [(1, 0), (0, 1), (0, -1)], [(1, 0), (-1, 0), (0, -1)], [(1, 0), (2, 0), (0, 1), (-1, -1)],
+        [(1, 0), (0, 1), (0, 0), (-1, -1)], [(0, 0), (1, 0), (0, 1)], [(1, 0)] * 3,
+        [(1, 0), (1, 0), (0, 1), (-1, -1)], [(1, 0), (0, 1), (-1, -1), (1, 0)],
+        [(1, 1), (2, 1), (2, 3)], [(1, 0), (0, 1), (1, -1)], [(0, 0), (0, 0), (0, 0)],
+    ]
+    return wrong_points(3, 8) + wrong("BadCell", [
+        tuple(ratios(*pair) for pair in rim) for rim in others
+    ])
+
+
+def wrong_mask():
+    """Wrong values for a mask."""
+    good = ratios("1/4", "3/4", 0, "1/4")
+    values = list(NOT_TUPLES) + [(), good[:1], (ONE,) * 11, list(good), (good, good), (1, 1),
+                                 ratios(0, 1), ratios(1, 0), ratios(0, 0), ratios(0, 1, 1, 1, 0),
+                                 ratios(1, *[0] * 9), ratios(0, *[1] * 9), ratios(1, 2, 3, 0)]
+    for at in range(4):
+        values += [good[:at] + (item,) + good[at + 1:] for item in ODD_ITEMS]
+    return wrong("BadMask", values)
+
+
+def wrong_sequence():
+    """Wrong values for a sequence."""
+    good = (-3, ratios(1, 0, "1/2"))
+    starts = [value for value, _ in wrong_integer("", -999, 999)]
+    rows = list(NOT_TUPLES) + [list(good[1]), (ONE,) * 41, ratios(*[0] * 41), good, (1, 2)]
+    rows += [(item,) for item in ODD_ITEMS] + [good[1] + (item,) for item in ODD_ITEMS]
+    rows += [(item,) + good[1] for item in ODD_ITEMS]
+    values = list(NOT_TUPLES) + [(), good[:1], good + good[:1], list(good), good[::-1], (good,)]
+    values += [(item, good[1]) for item in starts] + [(good[0], item) for item in rows]
+    return wrong("BadSequence", values)

@@ -14,20 +14,27 @@ from blendcurves.fitting import approximant, can_fit, fitted, nearest_row, table
 from blendcurves.implicit import crossings, curve_point, implicit
 from blendcurves.joining import from_pieces, raised_spline, slope_spline, space_size
 from blendcurves.joining import spline_product, spline_sum
+from blendcurves.joints import cell_size, continued, join_order
 from blendcurves.knots import basis_pieces, basis_value, coefficients, greville
+from blendcurves.limits import limit_at, limit_values
+from blendcurves.masks import contracts, even_odd, four_points, halved, is_passing, norm
+from blendcurves.masks import poly_halved, shorter, spline_mask, sum_order
 from blendcurves.minors import determinant, least_minor
 from blendcurves.natural import bending, cubics, natural
+from blendcurves.nets import net_blossom, net_of, net_raised, net_slope, net_split, net_terms
+from blendcurves.nets import net_turned, net_value, place_of
 from blendcurves.polys import add, common, composed, divide, integral, multiply, slope, value
 from blendcurves.ratios import compare, ratio
 from blendcurves.refining import inserted, refined, removed, smoothness
 from blendcurves.resultants import discriminant, resultant
 from blendcurves.signs import all_roots, boxes, chain, changes, counted_roots, is_positive
 from blendcurves.signs import positive_degree, roots_in, shows_boxes
-from tests.helper import WRONG_INTERVAL, WRONG_NODES, WRONG_NONZERO, WRONG_POLY, WRONG_RATIO
-from tests.helper import WRONG_ROW, Case, alike, outcome, poly, ratios, wrong, wrong_integer
-from tests.helper import wrong_above_zero, wrong_breaks, wrong_curve, wrong_equation, wrong_knots
-from tests.helper import wrong_line, wrong_matrix, wrong_pieces, wrong_points, wrong_rising
-from tests.helper import wrong_spline, wrong_tuple
+from tests.helper import SQUARE, WRONG_INTERVAL, WRONG_NODES, WRONG_NONZERO, WRONG_POLY
+from tests.helper import WRONG_RATIO, WRONG_ROW, Case, alike, outcome, poly, ratios, wrong
+from tests.helper import wrong_above_zero, wrong_breaks, wrong_curve, wrong_equation
+from tests.helper import wrong_integer, wrong_knots, wrong_line, wrong_mask, wrong_matrix, wrong_net
+from tests.helper import wrong_pieces, wrong_points, wrong_rim, wrong_rising, wrong_sequence
+from tests.helper import wrong_spline, wrong_terms, wrong_triangle, wrong_triple, wrong_tuple
 
 WRONG_TOP = wrong("BadRatio", [True, False, None, "1", "", [], [1], {}, (), (1, 1)])
 WRONG_LOW = WRONG_TOP + wrong("DividesByZero", [0])
@@ -71,6 +78,18 @@ WRONG_PART = WRONG_RATIO + wrong("BadRatio", [(0, 1), (1, 1), (-1, 2), (3, 2)])
 NUMBERS = (0, 1, -2, 3, 0, 0)
 WRONG_POINT = wrong("BadPoints", [item for item, _ in wrong_tuple("BadPoints", 2)], index=0)
 CURVE = (poly(0, 1, 1), poly(2, 0, 0, "1/3"))
+NET = (ratios(1, 2, "1/3"), ratios(0, -4), ratios("5/2"))
+INNER, BEYOND = ratios("1/2", "1/3", "1/6"), ratios(-1, "1/2", "3/2")
+WRONG_INNER_PLACE = wrong_triple("BadPlace", 1)
+WRONG_BEYOND = WRONG_INNER_PLACE + wrong("BadPlace", [ratios(0, 1, 0), ratios("1/2", 0, "1/2")])
+WRONG_NET_PLACES = wrong("BadPlaces", [
+    item for item, _ in wrong_tuple("BadPlaces", 2)
+] + [(), (INNER,), (INNER,) * 3, [INNER, INNER], (INNER, ratios(1, 1, 0))])
+TERMS = (((0, 1), (2, 1)), ((2, 0), (1, 3)))
+WRONG_TERMS_DEGREE = wrong_integer("BadDegree", 0, 4) + wrong("BadDegree", [0, 1])
+WRONG_CENTER = wrong("BadPoints", [item for item, _ in wrong_tuple("BadPoints", 2)], index=None)
+MASK, SEQUENCE = ratios("1/4", "3/4", "3/4", "1/4"), (-3, ratios(1, 0, "1/2"))
+WRONG_DYADIC = wrong("BadPlace", [item for item, _ in WRONG_RATIO] + [(1, 3), (1, 128), (5, 6)])
 
 # A function, arguments that are right, and for each one the wrong values and their errors.
 CALLS = [
@@ -158,6 +177,32 @@ CALLS = [
     (curve_point, (CURVE, (2, 3)), (wrong_curve(), WRONG_RATIO)),
     (implicit, (CURVE,), (wrong_curve(),)),
     (crossings, (CURVE, WEIGHTS, INTERVAL), (wrong_curve(), wrong_line(), WRONG_INTERVAL)),
+    (net_value, (NET, INNER), (wrong_net(), WRONG_INNER_PLACE)),
+    (net_blossom, (NET, (INNER, BEYOND)), (wrong_net(), WRONG_NET_PLACES)),
+    (net_raised, (NET,), (wrong_net(),)),
+    (net_turned, (NET,), (wrong_net(),)),
+    (net_split, (NET, INNER), (wrong_net(), WRONG_INNER_PLACE)),
+    (net_slope, (NET, ratios(1, 2, -3)), (wrong_net(), wrong_triple("BadPlace", 0))),
+    (place_of, (MATRIX[0], THREE), (wrong_tuple("BadPlace", 2), wrong_triangle())),
+    (net_terms, (NET, THREE), (wrong_net(), wrong_triangle())),
+    (net_of, (TERMS, 3, THREE), (wrong_terms(), WRONG_TERMS_DEGREE, wrong_triangle())),
+    (continued, (NET, BEYOND), (wrong_net(), WRONG_BEYOND)),
+    (join_order, (NET, NET, BEYOND), (wrong_net(), wrong_net((2,)), WRONG_BEYOND)),
+    (cell_size, (ratios(0, 0), SQUARE, 3, 1),
+     (WRONG_CENTER, wrong_rim(), WRONG_KNOT_DEGREE, wrong_integer("BadNumber", 0, 3))),
+    (halved, (MASK, SEQUENCE, 2),
+     (wrong_mask(), wrong_sequence(), wrong_integer("BadNumber", 0, 4))),
+    (even_odd, (MASK,), (wrong_mask(),)),
+    (sum_order, (MASK,), (wrong_mask(),)),
+    (shorter, (MASK,), (wrong_mask(),)),
+    (poly_halved, (MASK, CUBE), (wrong_mask(), WRONG_POLY)),
+    (norm, (MASK, 2), (wrong_mask(), wrong_integer("BadNumber", 1, 5))),
+    (contracts, (MASK, 2), (wrong_mask(), wrong_integer("BadNumber", 1, 5))),
+    (spline_mask, (3,), (wrong_integer("BadNumber", 0, 8),)),
+    (four_points, ((1, 16),), (WRONG_RATIO,)),
+    (is_passing, (MASK, 2), (wrong_mask(), wrong_integer("BadNumber", 0, 3))),
+    (limit_values, (MASK,), (wrong_mask(),)),
+    (limit_at, (MASK, (3, 8)), (wrong_mask(), WRONG_DYADIC)),
 ]
 
 

@@ -1,6 +1,7 @@
-"""The examples of the document, as they stand there."""
+"""The examples of the document, as they stand there, and those of README.md."""
 
 import unittest
+from pathlib import Path
 
 from blendcurves.errors import BlendError
 
@@ -88,6 +89,27 @@ raises BadPlace
 >>> curve = (((0, 1), (0, 1), (1, 1)), ((0, 1), (0, 1), (0, 1), (1, 1)))
 >>> [implicit(curve), curve_point(curve, (2, 1)), crossings(curve, ((1, 1), (0, 1), (-1, 1)), ((-2, 1), (2, 1)))]
 [(((0, 2), 1), ((3, 0), -1)), ((4, 1), (8, 1)), 2]
+
+>>> from blendcurves.nets import net_raised, net_terms, net_value
+>>> net, triangle = (((0, 1), (2, 1)), ((1, 1),)), (((0, 1), (0, 1)), ((1, 1), (0, 1)), ((0, 1), (1, 1)))
+>>> [net_value(net, ((1, 3), (1, 3), (1, 3))), net_raised(net), net_terms(net, triangle)]
+[(1, 1), (((0, 1), (1, 1), (2, 1)), ((1, 2), (3, 2)), ((1, 1),)), (((0, 1), (2, 1)), ((1, 0), (1, 1)))]
+
+>>> from blendcurves.joints import cell_size, continued, join_order
+>>> net, place = (((0, 1), (2, 1)), ((1, 1),)), ((-1, 1), (1, 1), (1, 1))
+>>> rim = (((1, 1), (0, 1)), ((0, 1), (1, 1)), ((-1, 1), (0, 1)), ((0, 1), (-1, 1)))
+>>> [continued(net, place), join_order(net, continued(net, place), place), cell_size(((0, 1), (0, 1)), rim, 2, 1)]
+[(((3, 1), (2, 1)), ((1, 1),)), 1, 8]
+
+>>> from blendcurves.masks import contracts, halved, poly_halved, spline_mask, sum_order
+>>> mask = spline_mask(2)
+>>> [mask, sum_order(mask), halved(mask, (0, ((4, 1),)), 1), contracts(mask, 1), poly_halved(mask, ((0, 1), (1, 1)))]
+[((1, 4), (3, 4), (3, 4), (1, 4)), 3, (0, ((1, 1), (3, 1), (3, 1), (1, 1))), 1, ((-3, 4), (1, 2))]
+
+>>> from blendcurves.limits import limit_at, limit_values
+>>> mask = ((1, 4), (3, 4), (3, 4), (1, 4))
+>>> [limit_values(mask), limit_at(mask, (3, 2))]
+[((0, 1), (1, 2), (1, 2), (0, 1)), (3, 4)]
 """
 
 
@@ -115,7 +137,16 @@ def run_example(text):
     return pairs
 
 
+README = Path(__file__).resolve().parent.parent / "README.md"
+
+
 class Examples(unittest.TestCase):
+    def test_readme(self):
+        pairs = run_example(README.read_text())
+        self.assertGreater(len(pairs), 5)
+        for found, due in pairs:
+            self.assertEqual(found, due)
+
     def test_examples(self):
         for text in EXAMPLES.strip().split("\n\n"):
             pairs = run_example(text)

@@ -63,6 +63,22 @@ ARGUMENTS = {
     "implicit": {
         "curve_point": "curve t", "implicit": "curve", "crossings": "curve line interval",
     },
+    "nets": {
+        "net_value": "net place", "net_blossom": "net places", "net_raised": "net",
+        "net_turned": "net", "net_slope": "net step", "net_split": "net place",
+        "place_of": "point triangle", "net_terms": "net triangle",
+        "net_of": "terms degree triangle",
+    },
+    "joints": {
+        "continued": "net place", "join_order": "one other place",
+        "cell_size": "center rim degree order",
+    },
+    "masks": {
+        "halved": "mask sequence many", "even_odd": "mask", "sum_order": "mask", "shorter": "mask",
+        "poly_halved": "mask poly", "norm": "mask many", "contracts": "mask most",
+        "spline_mask": "degree", "four_points": "weight", "is_passing": "mask at",
+    },
+    "limits": {"limit_values": "mask", "limit_at": "mask x"},
 }
 FIELDS = {
     "BadRatio": "", "BadPolynomial": "", "DividesByZero": "", "TooLarge": "most",
@@ -70,6 +86,8 @@ FIELDS = {
     "BadInterval": "", "BadNumber": "", "BadKnots": "index", "BadSpline": "index", "BadPlace": "",
     "BadPieces": "index", "TooFull": "", "TooMany": "most", "BadMatrix": "row",
     "BadPoints": "index", "BadWeights": "", "BadCurve": "index", "BadEquation": "",
+    "BadNet": "", "BadTriangle": "", "BadTerms": "", "BadCell": "", "BadMask": "",
+    "BadSequence": "",
 }
 
 
