@@ -33,7 +33,7 @@ def row_value(row, t):
     """The value of a row at any ratio."""
     check_row(row)
     check_ratio(t)
-    return averages_of(row, t)[-1][0]
+    return row_at(row, t)
 
 
 def raised(row):
@@ -70,10 +70,7 @@ def split(row, t):
 def slopes(row):
     """The row of the derivative."""
     check_row(row)
-    degree = len(row) - 1
-    if degree == 0:
-        return (ZERO,)
-    return tuple([times((degree, 1), minus(after, one)) for one, after in zip(row, row[1:])])
+    return slopes_of(row)
 
 
 def row_product(one, other):
@@ -122,6 +119,19 @@ def row_raised(row):
     many = len(row)
     inner = [between(row[at], row[at - 1], lowest(at, many)) for at in range(1, many)]
     return (row[0],) + tuple(inner) + (row[-1],)
+
+
+def slopes_of(row):
+    """The row of the derivative, of one degree less."""
+    degree = len(row) - 1
+    if degree == 0:
+        return (ZERO,)
+    return tuple([times((degree, 1), minus(after, one)) for one, after in zip(row, row[1:])])
+
+
+def row_at(row, t):
+    """The value of a row at any ratio."""
+    return averages_of(row, t)[-1][0]
 
 
 def averages_of(row, t):

@@ -126,9 +126,9 @@ def check_places(value, many):
         raise BadPlaces()
 
 
-def check_row(value):
-    """Raise BadRow for a value that is no row."""
-    if not has_length(value, 1, ROW_DEGREE + 1):
+def check_row(value, most=ROW_DEGREE):
+    """Raise BadRow for a value that is no row of a degree up to most."""
+    if not has_length(value, 1, most + 1):
         raise BadRow(None)
     for at, item in enumerate(value):
         if not is_ratio(item):

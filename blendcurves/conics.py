@@ -1,6 +1,6 @@
 """Conics: as weighted points, and as equations (points 23 and 24)."""
 
-from blendcurves.beziers import averages_of, split_of
+from blendcurves.beziers import row_at, split_of
 from blendcurves.checks import check_part, check_points, check_weights, has_length, is_point
 from blendcurves.errors import BadEquation, BadPoints
 from blendcurves.minors import reduced
@@ -17,7 +17,7 @@ def conic_point(points, weights, t):
     check_points(points, MANY_POINTS, MANY_POINTS)
     check_weights(weights, MANY_POINTS)
     check_ratio(t)
-    x, y, weight = [averages_of(row, t)[-1][0] for row in rows_of(points, weights)]
+    x, y, weight = [row_at(row, t) for row in rows_of(points, weights)]
     if weight == ZERO:
         return None
     return (over(x, weight), over(y, weight))

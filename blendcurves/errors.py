@@ -18,7 +18,7 @@ class DividesByZero(BlendError):
 
 
 class TooLarge(BlendError):
-    """The degree of an answer would be above most."""
+    """The degree of an answer, or how many digits a number has, would be above most."""
 
     def __init__(self, most):
         self.most = most
@@ -145,3 +145,26 @@ class BadMask(BlendError):
 
 class BadSequence(BlendError):
     """A value is not a sequence."""
+
+
+class NotText(BlendError):
+    """A value is not a string, or too long a one."""
+
+
+class InvalidText(BlendError):
+    """A text is of no polynomial; place tells, from 1, the first sign that cannot stand there."""
+
+    def __init__(self, place):
+        self.place = place
+
+
+class BadPatch(BlendError):
+    """A value is not a patch, or not one of the degrees that are due."""
+
+
+class NotRemovable(BlendError):
+    """A knot cannot be removed without another function."""
+
+
+class NothingToUndo(BlendError):
+    """There is no step that was not taken back."""

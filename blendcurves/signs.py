@@ -44,15 +44,7 @@ def counted_roots(poly, interval):
     """How many roots x with low < x < high there are, each as often as it is one."""
     check_nonzero(poly)
     check_interval(interval)
-    many = 0
-    rest = poly
-    # A root that is there m times is a root of the first m of these divisors.
-    while degree_of(rest) > 0:
-        many += many_roots(root_chain(rest), interval)
-        if value_at(rest, interval[1]) == ZERO:
-            many -= 1
-        rest = shared_by(rest, slope_of(rest))
-    return many
+    return sum(inner_roots(poly, interval))
 
 
 def is_positive(poly, interval):
@@ -147,6 +139,20 @@ def many_roots(links, interval):
     """How many roots with low < x <= high there are, for a chain without repeated ones."""
     low, high = interval
     return changes_at(links, low) - changes_at(links, high)
+
+
+def inner_roots(poly, interval):
+    """How many roots with low < x < high are there at least once, twice and so on."""
+    counts = []
+    rest = poly
+    # A root that is there m times is a root of the first m of these divisors.
+    while degree_of(rest) > 0:
+        many = many_roots(root_chain(rest), interval)
+        if value_at(rest, interval[1]) == ZERO:
+            many -= 1
+        counts.append(many)
+        rest = shared_by(rest, slope_of(rest))
+    return counts
 
 
 def changes_at(links, x):

@@ -571,3 +571,32 @@ def wrong_sequence():
     values = list(NOT_TUPLES) + [(), good[:1], good + good[:1], list(good), good[::-1], (good,)]
     values += [(item, good[1]) for item in starts] + [(good[0], item) for item in rows]
     return wrong("BadSequence", values)
+
+
+def wrong_patch(degrees=None):
+    """Wrong values for a patch; those of other degrees than these two are wrong, too."""
+    good = (ratios(1, 2, 3), ratios(4, 5, 6))
+    values = list(NOT_TUPLES) + [
+        (), ((),), ((), ()), good * 3, list(good), [list(row) for row in good], (good,), good[0],
+        (ratios(*range(6)),), (ratios(*range(6)),) * 2, (ratios(1),) * 6, (ratios(1), ratios(1, 2)),
+        (ratios(1, 2), ratios(1)), good + (ratios(1, 2),), good + (good[0] + (ONE,),), good + ((),),
+    ]
+    for at in range(2):
+        items = list(NOT_TUPLES) + [(), list(good[at]), good[at] + (ONE,), good[at][1:], good]
+        items += [good[at][:-1] + (item,) for item in ODD_ITEMS]
+        items += [(item,) + good[at][1:] for item in ODD_ITEMS]
+        values += [good[:at] + (item,) + good[at + 1:] for item in items]
+    if degrees is not None:
+        values += [(ratios(*range(wide + 1)),) * (high + 1) for high in range(5) for wide in range(5)
+                   if (high, wide) != degrees]
+    return wrong("BadPatch", values)
+
+
+def wrong_short_row():
+    """Wrong values for a row of 1 to 5 ratios."""
+    return (
+        wrong("BadRow", NOT_TUPLES + ((), (ONE,) * 6, (ONE,) * 9, (1,) * 6, list(ratios(1, 2))),
+              index=None)
+        + wrong_items("BadRow", ratios(2, 1, 0))
+        + wrong("BadRow", [(ONE,) * 4 + (1,)], index=4)
+    )

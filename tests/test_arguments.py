@@ -9,6 +9,7 @@ from blendcurves.blossoms import blossom
 from blendcurves.bsplines import spline_integral, spline_pieces, spline_value
 from blendcurves.conics import conic_kind, conic_point, conic_split, equation, equation_kind
 from blendcurves.conics import equation_value, through_five
+from blendcurves.desks import Desk
 from blendcurves.dividing import data_of, divided, divided_of, through
 from blendcurves.fitting import approximant, can_fit, fitted, nearest_row, table_at
 from blendcurves.implicit import crossings, curve_point, implicit
@@ -23,18 +24,24 @@ from blendcurves.minors import determinant, least_minor
 from blendcurves.natural import bending, cubics, natural
 from blendcurves.nets import net_blossom, net_of, net_raised, net_slope, net_split, net_terms
 from blendcurves.nets import net_turned, net_value, place_of
+from blendcurves.patches import patch_join, patch_of, patch_raised, patch_row, patch_slopes
+from blendcurves.patches import patch_split, patch_terms, patch_turned, patch_value
 from blendcurves.polys import add, common, composed, divide, integral, multiply, slope, value
 from blendcurves.ratios import compare, ratio
 from blendcurves.refining import inserted, refined, removed, smoothness
 from blendcurves.resultants import discriminant, resultant
+from blendcurves.shapes import is_convex, is_falling, is_never_below, is_rising
 from blendcurves.signs import all_roots, boxes, chain, changes, counted_roots, is_positive
 from blendcurves.signs import positive_degree, roots_in, shows_boxes
+from blendcurves.texts import read, write
+from blendcurves.weighted import retimed, weighted_raised, weighted_split, weighted_value
 from tests.helper import SQUARE, WRONG_INTERVAL, WRONG_NODES, WRONG_NONZERO, WRONG_POLY
-from tests.helper import WRONG_RATIO, WRONG_ROW, Case, alike, outcome, poly, ratios, wrong
-from tests.helper import wrong_above_zero, wrong_breaks, wrong_curve, wrong_equation
+from tests.helper import NOT_TUPLES, WRONG_RATIO, WRONG_ROW, Case, alike, outcome, poly, ratios
+from tests.helper import wrong, wrong_above_zero, wrong_breaks, wrong_curve, wrong_equation
 from tests.helper import wrong_integer, wrong_knots, wrong_line, wrong_mask, wrong_matrix, wrong_net
-from tests.helper import wrong_pieces, wrong_points, wrong_rim, wrong_rising, wrong_sequence
-from tests.helper import wrong_spline, wrong_terms, wrong_triangle, wrong_triple, wrong_tuple
+from tests.helper import wrong_patch, wrong_pieces, wrong_points, wrong_rim, wrong_rising
+from tests.helper import wrong_sequence, wrong_short_row, wrong_spline, wrong_terms, wrong_triangle
+from tests.helper import wrong_triple, wrong_tuple
 
 WRONG_TOP = wrong("BadRatio", [True, False, None, "1", "", [], [1], {}, (), (1, 1)])
 WRONG_LOW = WRONG_TOP + wrong("DividesByZero", [0])
@@ -56,6 +63,8 @@ WRONG_INDEX = wrong_integer("BadNumber", 0, 2)
 WRONG_WIDE = WRONG_RATIO + wrong("BadRatio", [(0, 1), (-1, 2), (-3, 1)])
 
 SPLINE = (2, KNOTS[:3] + ratios(1, 2, 2, 2), ratios(1, "1/2", -3, 0))
+# Its function is x, so that its inner knot can be removed.
+STRAIGHT = (2, SPLINE[1], ratios(0, "1/2", "3/2", 2))
 WRONG_SPLINE = wrong_spline(SPLINE)
 WRONG_PLACE = wrong("BadPlace", [item for item, _ in WRONG_RATIO] + [(-1, 1), (9, 4), (-1, 99)])
 WRONG_BETWEEN = WRONG_PLACE + wrong("BadPlace", [(0, 1), (2, 1)])
@@ -90,6 +99,41 @@ WRONG_TERMS_DEGREE = wrong_integer("BadDegree", 0, 4) + wrong("BadDegree", [0, 1
 WRONG_CENTER = wrong("BadPoints", [item for item, _ in wrong_tuple("BadPoints", 2)], index=None)
 MASK, SEQUENCE = ratios("1/4", "3/4", "3/4", "1/4"), (-3, ratios(1, 0, "1/2"))
 WRONG_DYADIC = wrong("BadPlace", [item for item, _ in WRONG_RATIO] + [(1, 3), (1, 128), (5, 6)])
+PATCH = (ratios(1, 2, "1/3"), ratios(0, -4, 5))
+WRONG_WAY = wrong_integer("BadNumber", 0, 1)
+WRONG_TEXT = wrong("NotText", [item for item in NOT_TUPLES if not isinstance(item, str)] + [
+    (), ("x",), ["x"], {"x": 1}, b"x", "x" * 201, "!" * 201,
+]) + wrong("InvalidText", ["", "y", " x", "+x"], place=1) + wrong("InvalidText", ["x +"], place=4)
+
+
+def desk_new(spline):
+    desk = Desk(spline)
+    return (desk.spline, desk.depth)
+
+
+def desk_put(spline, x):
+    desk = Desk(spline)
+    return (desk.put(x), desk.spline, desk.depth)
+
+
+def desk_take(spline, x):
+    desk = Desk(spline)
+    return (desk.take(x), desk.spline, desk.depth)
+
+
+def desk_lift(spline):
+    desk = Desk(spline)
+    return (desk.lift(), desk.spline, desk.depth)
+
+
+def desk_move(spline, index, number):
+    desk = Desk(spline)
+    return (desk.move(index, number), desk.spline, desk.depth)
+
+
+def desk_value(spline, x):
+    return Desk(spline).value(x)
+
 
 # A function, arguments that are right, and for each one the wrong values and their errors.
 CALLS = [
@@ -203,6 +247,33 @@ CALLS = [
     (is_passing, (MASK, 2), (wrong_mask(), wrong_integer("BadNumber", 0, 3))),
     (limit_values, (MASK,), (wrong_mask(),)),
     (limit_at, (MASK, (3, 8)), (wrong_mask(), WRONG_DYADIC)),
+    (write, (CUBE,), (WRONG_POLY,)),
+    (read, ("2x - 1/2 + x",), (WRONG_TEXT,)),
+    (patch_value, (PATCH, (1, 2), (3, 1)), (wrong_patch(), WRONG_RATIO, WRONG_RATIO)),
+    (patch_row, (PATCH, 1, (1, 3)), (wrong_patch(), WRONG_WAY, WRONG_RATIO)),
+    (patch_turned, (PATCH,), (wrong_patch(),)),
+    (patch_raised, (PATCH, 0), (wrong_patch(), WRONG_WAY)),
+    (patch_split, (PATCH, 0, (1, 3)), (wrong_patch(), WRONG_WAY, WRONG_RATIO)),
+    (patch_slopes, (PATCH, 1), (wrong_patch(), WRONG_WAY)),
+    (patch_terms, (PATCH,), (wrong_patch(),)),
+    (patch_of, (TERMS, 3, 2),
+     (wrong_terms(), WRONG_TERMS_DEGREE, wrong_integer("BadDegree", 0, 4) + wrong("BadDegree", [0]))),
+    (patch_join, (PATCH, PATCH), (wrong_patch(), wrong_patch((1, 2)))),
+    (is_never_below, (CUBE, INTERVAL), (WRONG_POLY, WRONG_INTERVAL)),
+    (is_rising, (SPLINE,), (WRONG_SPLINE,)),
+    (is_falling, (SPLINE,), (WRONG_SPLINE,)),
+    (is_convex, (SPLINE,), (WRONG_SPLINE,)),
+    (weighted_value, (WEIGHTS, WEIGHTS, (1, 3)),
+     (wrong_short_row(), WRONG_WEIGHTS, WRONG_RATIO)),
+    (weighted_raised, (WEIGHTS, WEIGHTS), (wrong_short_row(), WRONG_WEIGHTS)),
+    (weighted_split, (WEIGHTS, WEIGHTS, (1, 3)), (wrong_short_row(), WRONG_WEIGHTS, WRONG_PART)),
+    (retimed, (WEIGHTS, WEIGHTS, (1, 3)), (wrong_short_row(), WRONG_WEIGHTS, WRONG_WIDE)),
+    (desk_new, (SPLINE,), (WRONG_SPLINE,)),
+    (desk_put, (SPLINE, (1, 2)), (WRONG_SPLINE, WRONG_BETWEEN)),
+    (desk_take, (STRAIGHT, (1, 1)), (WRONG_SPLINE, WRONG_INNER)),
+    (desk_lift, (SPLINE,), (WRONG_SPLINE,)),
+    (desk_move, (SPLINE, 1, (1, 2)), (WRONG_SPLINE, wrong_integer("BadNumber", 0, 3), WRONG_RATIO)),
+    (desk_value, (SPLINE, (1, 2)), (WRONG_SPLINE, WRONG_PLACE)),
 ]
 
 

@@ -110,6 +110,33 @@ raises BadPlace
 >>> mask = ((1, 4), (3, 4), (3, 4), (1, 4))
 >>> [limit_values(mask), limit_at(mask, (3, 2))]
 [((0, 1), (1, 2), (1, 2), (0, 1)), (3, 4)]
+
+>>> from blendcurves.texts import read, write
+>>> [write(((1, 2), (0, 1), (-1, 1))), read("2x - 1/2 + x")]
+['-x^2 + 1/2', ((-1, 2), (3, 1))]
+>>> from blendcurves.texts import read
+>>> read("x +")
+raises InvalidText(place=4)
+
+>>> from blendcurves.patches import patch_join, patch_terms, patch_value
+>>> patch = (((0, 1), (0, 1)), ((0, 1), (1, 1)))
+>>> [patch_value(patch, (1, 2), (1, 3)), patch_terms(patch), patch_join(patch, (((0, 1), (1, 1)), ((0, 1), (2, 1))))]
+[(1, 6), (((1, 1), (1, 1)),), 1]
+
+>>> from blendcurves.shapes import is_convex, is_never_below, is_rising
+>>> knots = ((0, 1), (0, 1), (1, 1), (2, 1), (2, 1))
+>>> [is_never_below(((1, 4), (-1, 1), (1, 1)), ((0, 1), (1, 1))), is_rising((1, knots, ((0, 1), (1, 1), (0, 1)))), is_convex((1, knots, ((1, 1), (0, 1), (1, 1))))]
+[True, False, True]
+
+>>> from blendcurves.weighted import retimed, weighted_raised, weighted_value
+>>> row, weights = ((0, 1), (1, 1)), ((1, 1), (3, 1))
+>>> [weighted_value(row, weights, (1, 2)), weighted_raised(row, weights), retimed(row, ((1, 1), (1, 1)), (2, 1))]
+[(3, 4), (((0, 1), (3, 4), (1, 1)), ((1, 1), (2, 1), (3, 1))), (((0, 1), (1, 1)), ((1, 1), (2, 1)))]
+
+>>> from blendcurves.desks import Desk
+>>> desk = Desk((1, ((0, 1), (0, 1), (2, 1), (2, 1)), ((0, 1), (2, 1))))
+>>> [desk.put((1, 1)), desk.spline, desk.depth, desk.value((1, 2)), desk.undo(), desk.depth]
+[None, (1, ((0, 1), (0, 1), (1, 1), (2, 1), (2, 1)), ((0, 1), (1, 1), (2, 1))), 1, (1, 2), None, 0]
 """
 
 

@@ -5,6 +5,7 @@ import inspect
 import unittest
 
 from blendcurves import errors
+from blendcurves.desks import Desk
 
 ARGUMENTS = {
     "ratios": {"ratio": "top low", "compare": "one other"},
@@ -79,6 +80,20 @@ ARGUMENTS = {
         "spline_mask": "degree", "four_points": "weight", "is_passing": "mask at",
     },
     "limits": {"limit_values": "mask", "limit_at": "mask x"},
+    "texts": {"write": "poly", "read": "text"},
+    "patches": {
+        "patch_value": "patch s t", "patch_turned": "patch", "patch_raised": "patch way",
+        "patch_slopes": "patch way", "patch_row": "patch way t", "patch_split": "patch way t",
+        "patch_terms": "patch", "patch_of": "terms high wide", "patch_join": "one other",
+    },
+    "shapes": {
+        "is_never_below": "poly interval", "is_rising": "spline", "is_falling": "spline",
+        "is_convex": "spline",
+    },
+    "weighted": {
+        "weighted_value": "row weights t", "weighted_raised": "row weights",
+        "retimed": "row weights factor", "weighted_split": "row weights t",
+    },
 }
 FIELDS = {
     "BadRatio": "", "BadPolynomial": "", "DividesByZero": "", "TooLarge": "most",
@@ -87,7 +102,12 @@ FIELDS = {
     "BadPieces": "index", "TooFull": "", "TooMany": "most", "BadMatrix": "row",
     "BadPoints": "index", "BadWeights": "", "BadCurve": "index", "BadEquation": "",
     "BadNet": "", "BadTriangle": "", "BadTerms": "", "BadCell": "", "BadMask": "",
-    "BadSequence": "",
+    "BadSequence": "", "NotText": "", "InvalidText": "place", "BadPatch": "", "NotRemovable": "",
+    "NothingToUndo": "",
+}
+METHODS = {
+    "__init__": "self spline", "put": "self x", "take": "self x", "lift": "self",
+    "move": "self index number", "undo": "self", "value": "self x",
 }
 
 
@@ -100,6 +120,16 @@ class Interface(unittest.TestCase):
                 self.assertTrue(inspect.isfunction(function), title)
                 self.assertEqual(function.__module__, module.__name__)
                 self.assertEqual(list(inspect.signature(function).parameters), due.split())
+
+    def test_desk(self):
+        self.assertTrue(inspect.isclass(Desk))
+        self.assertEqual(Desk.__module__, "blendcurves.desks")
+        for title, due in METHODS.items():
+            method = vars(Desk)[title]
+            self.assertTrue(inspect.isfunction(method), title)
+            self.assertEqual(list(inspect.signature(method).parameters), due.split())
+        for title in ("spline", "depth"):
+            self.assertIsInstance(vars(Desk)[title], property)
 
     def test_base(self):
         self.assertEqual(errors.BlendError.__bases__, (ValueError,))

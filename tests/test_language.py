@@ -60,6 +60,12 @@ def bound_in_functions(tree):
     return found
 
 
+def properties(tree):
+    """The methods that the document lists as properties."""
+    methods = [node for kind in tree.body if isinstance(kind, ast.ClassDef) for node in kind.body]
+    return [node for node in methods if getattr(node, "name", "") in ("spline", "depth")]
+
+
 class Language(unittest.TestCase):
     def test_files(self):
         for path in FOLDER.iterdir():
@@ -117,7 +123,7 @@ class Language(unittest.TestCase):
             taken = {item for _, item in imported(tree)}
             self.assertEqual([item for item in bound_in_functions(tree) if item in taken], [], name)
             for node in ast.walk(tree):
-                if isinstance(node, ast.Name) and node.id not in own:
+                if isinstance(node, ast.Name) and node.id not in own + ["property"]:
                     self.assertIn(node.id, BUILTINS, (name, node.lineno))
 
     def test_statements(self):
@@ -126,7 +132,8 @@ class Language(unittest.TestCase):
             self.assertEqual([node for node in nodes if isinstance(node, BARRED)], [], name)
             for node in nodes:
                 if isinstance(node, ast.FunctionDef):
-                    self.assertEqual(node.decorator_list, [])
+                    self.assertEqual([ast.unparse(item) for item in node.decorator_list],
+                                     ["property"] if node in properties(tree) else [])
                 if isinstance(node, ast.Call) and isinstance(node.func, ast.Attribute):
                     self.assertIn(node.func.attr, METHODS, (name, node.lineno))
                 if isinstance(node, ast.Starred):
