@@ -54,16 +54,9 @@ def check_cell(center, rim):
         if not is_below(ZERO, turn(center, one, after)):
             raise BadCell()
     # All steps turn to the left by less than a half turn: as often as they come up, they go around.
-    upper = [is_upper(center, point) for point in rim]
+    upper = [is_below(center[1], point[1]) for point in rim]
     if len([1 for at, now in enumerate(upper) if now and not upper[at - 1]]) != 1:
         raise BadCell()
-
-
-def is_upper(center, point):
-    """Tell whether the direction to a point is at least 0 and less than a half turn."""
-    if point[1] == center[1]:
-        return is_below(center[0], point[0])
-    return is_below(center[1], point[1])
 
 
 def many_lines(center, rim):

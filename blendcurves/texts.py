@@ -89,7 +89,6 @@ def check_sign(text, at, allowed):
 
 def term_at(text, at):
     """The number and the power of the term at an index, and the index behind it."""
-    check_sign(text, at, DIGITS + VARIABLE)
     number, power = ONE, 0
     if not has_at(text, at, VARIABLE):
         number, at = number_at(text, at)

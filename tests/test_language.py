@@ -98,6 +98,16 @@ class Language(unittest.TestCase):
                     self.assertEqual(package, "blendcurves")
                     self.assertIn(item, defined(files[file + ".py"]), (name, item))
 
+    def test_module_level(self):
+        for name, tree in trees().items():
+            for node in tree.body:
+                if isinstance(node, ast.Assign):
+                    ast.literal_eval(node.value)
+                elif isinstance(node, ast.Expr):
+                    self.assertIs(node, tree.body[0], name)
+                else:
+                    self.assertIsInstance(node, (ast.ImportFrom, ast.FunctionDef, ast.ClassDef))
+
     def test_imports_are_used(self):
         for name, tree in trees().items():
             read = {node.id for node in ast.walk(tree) if isinstance(node, ast.Name)}
